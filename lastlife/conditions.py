@@ -20,6 +20,9 @@ class Condition:
 class By(Condition):
     """Holds if one date comes and the other one does not come ahead of it."""
 
+    def __init__(self, one, other):
+        super().__init__(one, other)
+
     def holds(self, record):
         """Return whether the condition holds in the record."""
         return comes_by(self.one.year(record), self.other.year(record))
@@ -36,6 +39,9 @@ class By(Condition):
 
 class Unless(Condition):
     """Holds exactly if By does not hold for the same dates."""
+
+    def __init__(self, one, other):
+        super().__init__(one, other)
 
     def holds(self, record):
         """Return whether the condition holds in the record."""

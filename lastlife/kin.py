@@ -17,6 +17,9 @@ class Kin:
 class Children(Kin):
     """The children of a life."""
 
+    def __init__(self, life):
+        super().__init__(life)
+
     def members(self, record):
         """Return the names of the members in the order of the record's persons."""
         require_lives(record.lives, (self.life,))
@@ -36,6 +39,9 @@ class Children(Kin):
 
 class Grandchildren(Kin):
     """The children of a life's children."""
+
+    def __init__(self, life):
+        super().__init__(life)
 
     def members(self, record):
         """Return the names of the members in the order of the record's persons."""

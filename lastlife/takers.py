@@ -30,18 +30,11 @@ class OfKin(Taker):
         self.lives_named = (kin.life,)
 
 
-class OfAge(OfKin):
-    """The base of those that pick by an age."""
-
-    def __init__(self, kin, age):
-        super().__init__(kin)
-        if not is_whole(age, 0, MOST):
-            raise BadTaker("age")
-        self.age = age
-
-
 class Named(OfLife):
     """A life, dead or alive."""
+
+    def __init__(self, life):
+        super().__init__(life)
 
     def of(self, record, year):
         """Return the life, at every year."""
@@ -58,6 +51,9 @@ class Named(OfLife):
 class Mate(OfLife):
     """The last mate of a life."""
 
+    def __init__(self, life):
+        super().__init__(life)
+
     def of(self, record, year):
         """Return the last mate in the whole record, at every year."""
         mate = record.mate(self.life)
@@ -73,6 +69,9 @@ class Mate(OfLife):
 class Told(OfKin):
     """The members of a kin that are lives."""
 
+    def __init__(self, kin):
+        super().__init__(kin)
+
     def of(self, record, year):
         """Return these members, at every year."""
         return tuple([member for member in self.kin.members(record) if record.lives.has(member)])
@@ -86,6 +85,9 @@ class Told(OfKin):
 
 class Whole(OfKin):
     """All members of a kin who are born, dead or alive."""
+
+    def __init__(self, kin):
+        super().__init__(kin)
 
     def of(self, record, year):
         """Return the members who are born by the year."""
@@ -101,6 +103,9 @@ class Whole(OfKin):
 class Living(OfKin):
     """The members of a kin who live."""
 
+    def __init__(self, kin):
+        super().__init__(kin)
+
     def of(self, record, year):
         """Return the members who are born by the year and have not died ahead of it."""
         born = born_members(self.kin, record, year)
@@ -113,8 +118,13 @@ class Living(OfKin):
         return f"living {self.kin}"
 
 
-class Reaching(OfAge):
+class Reaching(OfKin):
     """The members of a kin who are born and reach an age, be it later."""
+
+    def __init__(self, kin, age):
+        super().__init__(kin)
+        require_age(age)
+        self.age = age
 
     def of(self, record, year):
         """Return the members who are born by the year and reach the age."""
@@ -128,8 +138,13 @@ class Reaching(OfAge):
         return f"reaching {self.age} {self.kin}"
 
 
-class FirstReaching(OfAge):
+class FirstReaching(OfKin):
     """The one member of a kin who is the first to reach an age."""
+
+    def __init__(self, kin, age):
+        super().__init__(kin)
+        require_age(age)
+        self.age = age
 
     def of(self, record, year):
         """Return the first born of the members who have reached the age by the year."""
@@ -145,6 +160,12 @@ class FirstReaching(OfAge):
 
     def __str__(self):
         return f"first reaching {self.age} {self.kin}"
+
+
+def require_age(age):
+    """Raise BadTaker unless the thing is an age."""
+    if not is_whole(age, 0, MOST):
+        raise BadTaker("age")
 
 
 def born_members(kin, record, year):

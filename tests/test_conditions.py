@@ -70,7 +70,7 @@ class TestConditions(FamilyTest):
     def test_the_interface_stands_in_each_class(self):
         for made in (By, Unless):
             self.assertTrue(issubclass(made, Condition))
-            self.stands_in(made, "holds", "__invert__", "__eq__", "__str__")
+            self.stands_in(made, "__init__", "holds", "__invert__", "__eq__", "__str__")
 
 
 if __name__ == "__main__":

@@ -234,7 +234,7 @@ class TestAttributes(FamilyTest):
     def test_all_are_below_date_and_keep_the_interface(self):
         for date in CLASSES:
             self.assertTrue(issubclass(date, Date))
-            self.stands_in(date, "__eq__", "__str__")
+            self.stands_in(date, "__init__", "__eq__", "__str__")
         self.stands_in(Date, "year", "__add__", "__or__", "__and__")
 
     def test_parameters(self):

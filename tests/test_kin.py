@@ -22,7 +22,7 @@ class TestKin(FamilyTest):
         for kin in (Children, Grandchildren):
             self.assertTrue(issubclass(kin, Kin))
             self.same(kin("a").life, "a")
-            self.stands_in(kin, "members", "closing", "__eq__", "__str__")
+            self.stands_in(kin, "__init__", "members", "closing", "__eq__", "__str__")
 
     def test_a_life_is_a_name(self):
         for kin in (Children, Grandchildren):

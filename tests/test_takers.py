@@ -155,7 +155,7 @@ class TestTakers(FamilyTest):
     def test_the_interface_stands_in_each_class(self):
         for taker in (Named, Mate, *OF_KIN, *OF_AGE):
             self.assertTrue(issubclass(taker, Taker))
-            self.stands_in(taker, "of", "__eq__", "__str__")
+            self.stands_in(taker, "__init__", "of", "__eq__", "__str__")
 
     def test_equal_if_class_and_fields_are(self):
         self.equals_only(Named("a"), Named("a"), Named("b"), Mate("a"), Told(KIN))
