@@ -1,12 +1,17 @@
 """What several tests share: a base class, odd things and small records."""
 
 import itertools
+import time
 import unittest
 
 from lastlife.customs import Customs
 from lastlife.errors import DeedError
 from lastlife.lives import Lives
 from lastlife.record import Record, record_fault
+
+# No call within the bounds takes longer; a machine that is busy with other work gets some time more.
+LONGEST_SECONDS = 2
+
 
 class Always:
     """A thing that says that it is equal to everything."""
@@ -63,6 +68,13 @@ class FamilyTest(unittest.TestCase):
         """No two objects are less or greater."""
         for call in (lambda: thing < twin, lambda: thing <= twin, lambda: thing > twin, lambda: thing >= twin):
             self.assertRaises(TypeError, call)
+
+    def quick(self, call, *args, **more):
+        """What the call returns; it does not take long."""
+        start = time.perf_counter()
+        found = call(*args, **more)
+        self.assertLess(time.perf_counter() - start, LONGEST_SECONDS, call)
+        return found
 
     def stands_in(self, owner, *methods):
         """The methods are defined in the class itself."""
