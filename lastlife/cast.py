@@ -3,7 +3,7 @@
 from lastlife.dates import Close, Earlier, First, Last, Later, Plus
 from lastlife.gifts import dates_of
 from lastlife.kin import Children
-from lastlife.takers import FirstReaching, Mate, Named, Told
+from lastlife.takers import Mate, Named, Told
 
 
 def places_of(kin, past, places):
@@ -44,9 +44,9 @@ def is_fixed(date, past):
     return isinstance(date, First) and date.what == "birth" and len(date.kin.members(past)) > 0
 
 
-def all_places(chain, past):
-    """Return the places from which newcomers count."""
-    found = {place: True for place in class_places(chain, past)}
+def all_places(chain, classes):
+    """Return the places from which newcomers count; classes are those on whom class dates hang."""
+    found = {place: True for place in classes}
     for gift in chain:
         kin = newcomer_kin(gift.taker)
         if kin is not None:
@@ -56,28 +56,89 @@ def all_places(chain, past):
     return list(found)
 
 
-def pool_sizes(chain, past, subject=None):
-    """Return for each place how many newcomers are enough if the subject of the row in question is in this place."""
-    places = all_places(chain, past)
-    sizes = {place: 0 for place in places}
-    last = chain[-1].taker
-    takes = taking_places(last, past, places)
-    # Beside the one who takes or not: another one who reaches an age first, or who takes a gift ahead.
-    others = takes if isinstance(last, FirstReaching) else []
-    others = [*others, *[place for gift in chain[:-1] for place in taking_places(gift.taker, past, places)]]
-    for place in places:
-        sizes[place] = (1 if place in takes else 0) + (1 if place in others else 0)
-    for place in class_places(chain, past):
-        sizes[place] += 2 if place == subject else 1
-    for place in places:
-        if place[0] == "grand":
-            # Two newcomers can have one parent, unless the parents count themselves.
-            lone = sizes[("child", place[1])] == 0
-            sizes[("child", place[1])] += min(1, sizes[place]) if lone else sizes[place]
-    return sizes
-
-
 def taking_places(taker, past, places):
     """Return the places of the newcomers whom a taker can give a gift."""
     kin = newcomer_kin(taker)
     return [] if kin is None else places_of(kin, past, places)
+
+
+class Cast:
+    """How many newcomers are enough for the gift at the end of a chain, in which places.
+
+    One newcomer takes the gift in one of two records; in the other record another one keeps it from it, as it takes
+    a gift ahead. Others determine the years of class dates, and some are but parents. The subject is the place of
+    the newcomer of the row in question, None if there is none.
+    """
+
+    def __init__(self, chain, past):
+        self.classes = class_places(chain, past)
+        self.places = all_places(chain, self.classes)
+        self.taking = taking_places(chain[-1].taker, past, self.places)
+        self.others = [place for gift in chain[:-1] for place in taking_places(gift.taker, past, self.places)]
+
+    def is_idle(self, place):
+        """Return whether nothing hangs on the newcomers of a place, who are but parents."""
+        return place not in [*self.classes, *self.taking, *self.others]
+
+    def is_one_of_two(self, subject):
+        """Return whether the subject takes or keeps another one from it, as it can do nothing else."""
+        return subject is not None and subject not in self.classes
+
+    def roles(self, subject):
+        """Return for each place how many of its newcomers beside the subject take or keep another one from it."""
+        if not self.is_one_of_two(subject):
+            return {place: (1 if place in self.taking else 0) + (1 if place in self.others else 0)
+                    for place in self.places}
+        return {place: 1 if self.fit_together(subject, place) else 0 for place in self.places}
+
+    def fit_together(self, one, other):
+        """Return whether one can take from the one place and one from the other can keep another one from it."""
+        return (one in self.taking and other in self.others) or (one in self.others and other in self.taking)
+
+    def own_sizes(self, subject):
+        """Return for each place how many newcomers are enough without those who are but parents."""
+        sizes = self.roles(subject)
+        for place in self.classes:
+            sizes[place] += 1
+        if subject is not None:
+            sizes[subject] += 1
+        return sizes
+
+    def sizes(self, subject):
+        """Return for each place how many newcomers are enough."""
+        sizes = self.own_sizes(subject)
+        for place in self.places:
+            if place[0] == "grand":
+                # Two newcomers can have one parent, unless the parents count themselves.
+                lone = sizes[("child", place[1])] == 0
+                sizes[("child", place[1])] += min(1, sizes[place]) if lone else sizes[place]
+        return sizes
+
+    def crowds(self, subject):
+        """Return rows of newcomers who are not all needed at once, as but one takes and one keeps it from it."""
+        sizes = self.sizes(subject)
+        roles = self.roles(subject)
+        places = [place for place in self.places if roles[place] > 0]
+        # Newcomers stand in the order of their births, so the last ones of a place are those beyond the others.
+        firsts = {place: (*place, sizes[place] - roles[place]) for place in places}
+        found = []
+        for at, one in enumerate(places):
+            for next_at, other in enumerate(places[at + 1:], at + 1):
+                if self.is_one_of_two(subject) or not self.fit_together(one, other):
+                    found.append([firsts[one], firsts[other]])
+                found.extend([[firsts[one], firsts[other], firsts[third]] for third in places[next_at + 1:]])
+            if roles[one] == 2:
+                found.extend([[(*one, sizes[one] - 1), firsts[other]] for other in places if other != one])
+        return found
+
+    def parent_pairs(self, subject):
+        """Return pairs of newcomers: the first one is but a parent, and needed only if the second one is there."""
+        own = self.own_sizes(subject)
+        sizes = self.sizes(subject)
+        found = []
+        for place in self.places:
+            if place[0] == "grand":
+                above = ("child", place[1])
+                found.extend([((*above, number), (*place, number - own[above]))
+                              for number in range(own[above], sizes[above])])
+        return found

@@ -4,7 +4,7 @@ from lastlife.conditions import By
 from lastlife.sentences import all_of, denied, some_of
 from lastlife.takers import FirstReaching, Living, Mate, Named, Reaching, Told
 from lastlife.values import at_most, comes, later_by, reaches_sentence, time_of, value_of
-from lastlife.world import ZERO, link
+from lastlife.world import link
 
 
 class Claims:
@@ -100,12 +100,8 @@ def comes_first(world, one, other):
         return isinstance(one, str)
     if world.rank(one) == world.rank(other):
         return one[2] < other[2]
-    if world.rank(one) > world.rank(other):
-        return denied(comes_first(world, other, one))
-    # Names are free, so of newcomers who are born in one year either can be the first one.
-    free = (world.tie(), ZERO, 0)
-    births = (world.birth(one), world.birth(other))
-    return some_of([link(births[0], births[1], -1), all_of([link(births[0], births[1]), free])])
+    # Newcomers get names in the order of their ranks, so of two who are born in one year the lesser rank is first.
+    return link(world.birth(one), world.birth(other), 0 if world.rank(one) < world.rank(other) else -1)
 
 
 class Question:

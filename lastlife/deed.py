@@ -59,7 +59,8 @@ class Deed:
         if not isinstance(gift, Gift):
             raise BadGift("gift")
         at = self.names.index(self[gift.name].name)
-        return Deed(*[*self.gifts[:at], gift, *self.gifts[at + 1:]])
+        gifts = [*self.gifts[:at], gift, *self.gifts[at + 1:]]
+        return Deed(*gifts)
 
     def __eq__(self, other):
         return isinstance(other, Deed) and self.gifts == other.gifts
@@ -88,7 +89,8 @@ def gift_fault(told, gift):
 
 def is_too_much(told, gift):
     """Return whether the parts of the roots and of this one sum to more than 1."""
-    top, bottom = added(gift.part, *[other.part for other in list(told.values()) if other.over is None])
+    parts = [other.part for other in list(told.values()) if other.over is None]
+    top, bottom = added(gift.part, *parts)
     return top > bottom
 
 

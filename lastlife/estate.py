@@ -16,7 +16,6 @@ def shares(deed, name, record):
 
 def heirs(deed, record):
     """Return the pairs of a person and its share in the estate."""
-    require_lives(record.lives, [life for gift in deed.gifts for life in gift.lives_named])
     return summed(deed, record, [(gift.name, deed.takers(gift.name, record)) for gift in deed.gifts])
 
 
@@ -37,7 +36,8 @@ def summed(deed, record, rows):
 
 def left_over(rows):
     """Return what the ratios of the rows leave of 1."""
-    return taken_from(ALL_OF_IT, added(*[part for _, part in rows]))
+    parts = [part for _, part in rows]
+    return taken_from(ALL_OF_IT, added(*parts))
 
 
 def require_year(year):

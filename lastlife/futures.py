@@ -1,23 +1,24 @@
 """What can still come: the records that go on from a beginning, asked through their worlds."""
 
 from lastlife.bounds import NO_BOUND, wide_bounds
-from lastlife.cast import pool_sizes
+from lastlife.cast import Cast
 from lastlife.claims import Question
 from lastlife.search import Search
 from lastlife.sentences import some_of
 from lastlife.witness import Witness, tipping
-from lastlife.world import DEAD, END, World
+from lastlife.world import AT_NEVER, DEAD, END, World, link
+
+# The kinds of rows in the order in which they are asked: those for which a great lag is soon found come first.
+SOONEST = ("happened", "wed", "born", "died")
 
 # Greater than each lag of a gift that is not endless, and less than no bound.
 ABOVE_ALL = 100000000000000000000
 
 
 def bounded(world):
-    """Return the bounds that the links of a world leave, None if these cannot hold."""
+    """Return the bounds that the links of a world leave; there always are some."""
     bounds = wide_bounds(world.count)
     for one, other, most in world.links:
-        if bounds.clash(one, other, most) is not None:
-            return None
         bounds.tighten(one, other, most, 0)
     return bounds
 
@@ -26,22 +27,29 @@ def looked_for(search, world, sentence):
     """Look in the world for times under which the sentence holds; return whether the search has found better ones."""
     if sentence is False:
         return False
-    bounds = bounded(world)
-    if bounds is None:
-        return False
     before = search.best
-    search.explore(bounds, [(sentence, 0, True), *[(rule, 0, False) for rule in world.rules]])
+    search.explore(bounded(world), [(sentence, 0, True, None), *[(rule, 0, False, None) for rule in world.rules]])
     return search.best > before
 
 
 def some_record(past, since, chain, ask):
     """Return a record that goes on from the past behind the year and for which the sentence of ask holds, or None."""
-    world = World(past, since, pool_sizes(chain, past))
+    cast = Cast(chain, past)
+    world = World(past, since, cast.sizes(None))
     sentence = ask(Question(world, chain, False))
+    world.rules.extend(few_newcomers(world, cast, None))
     search = Search(None, 0, 1)
     if not looked_for(search, world, sentence):
         return None
     return Witness(world, search.bounds).told_record()
+
+
+def few_newcomers(world, cast, subject):
+    """Return the sentences that no more newcomers are there than are needed together."""
+    found = [some_of([link(AT_NEVER, world.birth(person)) for person in crowd]) for crowd in cast.crowds(subject)]
+    for parent, child in cast.parent_pairs(subject):
+        found.append(some_of([link(AT_NEVER, world.birth(parent)), world.is_there(child)]))
+    return found
 
 
 class Lags:
@@ -52,6 +60,7 @@ class Lags:
         self.since = since
         self.gifts = chain
         self.measuring = measuring
+        self.cast = Cast(chain, past)
         self.search = None
         self.world = None
 
@@ -67,31 +76,29 @@ class Lags:
 
     def rows_in_question(self):
         """Return the rows in question: all on which the gift hangs."""
-        pools = {place: self.sizes(place)[place] for place in self.sizes(None)}
+        pools = {place: self.cast.sizes(place)[place] for place in self.cast.places}
         world = World(self.past, self.since, pools)
         Question(world, self.gifts, False)
-        found = []
-        for word, name in world.instants:
-            # Of several newcomers in one place, the first one stands for the others.
-            if not isinstance(name, str) and len(name) == 3 and name[2] > 0:
-                continue
-            if word == "happened" or name not in self.measuring:
-                found.append((word, name))
-        return found
+        return [row for word in SOONEST for row in list(world.instants) if row[0] == word and self.is_in_question(row)]
 
-    def sizes(self, subject):
-        """Return the sizes of the pools if the subject of the row in question is in a place."""
-        return pool_sizes(self.gifts, self.past, subject)
+    def is_in_question(self, row):
+        """Return whether the row can be the last one and the gift can hang on it."""
+        word, name = row
+        if isinstance(name, str):
+            return word == "happened" or name not in self.measuring
+        # Of several newcomers in one place, the first one stands for the others.
+        return name[0] == "mate" or (name[2] == 0 and not self.cast.is_idle(name[:2]))
 
     def look_at(self, row):
         """Look for a greater lag of a record with such a last row."""
         name = row[1]
         place = None if isinstance(name, str) or name[0] == "mate" else name[:2]
-        world = World(self.past, self.since, self.sizes(place), row, self.measuring)
+        world = World(self.past, self.since, self.cast.sizes(place), row, self.measuring)
         longer = Question(world, self.gifts, False)
         shorter = Question(world, self.gifts, True)
         world.require_row()
         sentence = some_of([longer.loses(shorter), shorter.loses(longer)])
+        world.rules.extend(few_newcomers(world, self.cast, place))
         if looked_for(self.search, world, sentence):
             self.world = world
 

@@ -31,7 +31,6 @@ def holds_all(names, others):
 def measuring_table(deed, name, lives):
     """Return the number of the gift at the beginning for each set of measuring lives."""
     record = Record(lives)
-    called_chain(deed, name, record)
     found = {}
     # For more measuring lives the number is no greater, so greater sets tell from where to look.
     for members in sets_of(lives.names)[::-1]:
@@ -46,7 +45,6 @@ def measuring_table(deed, name, lives):
 def measuring_sets(deed, name, lives):
     """Return the sets for which the gift is good while it is not for any smaller set within."""
     record = Record(lives)
-    called_chain(deed, name, record)
     found = []
     for members in sets_of(lives.names):
         if not any([holds_all(members, other) for other in found]):

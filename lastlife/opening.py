@@ -122,5 +122,4 @@ def open_gifts(deed, record, *, year=None):
     """Return the names of the gifts that are open."""
     for name in deed.names:
         called_chain(deed, name, record)
-    called_year(record, year)
     return tuple([name for name in deed.names if is_open(deed, name, record, year=year)])

@@ -57,7 +57,7 @@ class Reaches:
         if len([life for life in self.measuring if record.is_alive(life)]) > 0:
             return "alive"
         lag = record.end - record.last_death(self.measuring)
-        if len(record) == 0 or record.end <= self.since or lag <= 0:
+        if len(record) == 0 or record.end <= self.since:
             return "lag"
         if lag != told if told is not None else lag <= self.past.customs.limit:
             return "lag"

@@ -1,7 +1,7 @@
 """The search for times under which sentences hold and by which one instant is as far behind another as can be."""
 
 from lastlife.bounds import NO_BOUND
-from lastlife.sentences import ALL, denied, joined
+from lastlife.sentences import ALL, denied, instants_of, joined
 
 
 class Search:
@@ -32,13 +32,14 @@ class Search:
         """Return the grounds of this difference."""
         return 0 if self.pair is None else bounds.grounds[self.pair[0]][self.pair[1]]
 
-    def explore(self, bounds, sentences, depth=0):
+    def explore(self, bounds, waiting, depth=0):
         """Look for better times within the bounds, which change; return the grounds if there are no others.
 
-        Each sentence that must hold is told with its grounds and with whether it is a goal: goals stand ahead of
-        the others, and they are decided first and in their order. Of the others, the last ones hang on the first.
+        Each sentence that must hold is told with its grounds, with whether it is a goal, and with the bits of its
+        instants, None if it has not been judged. Goals stand ahead of the others, and they are decided first and
+        in their order. Of the others, the last ones hang on the first.
         """
-        waiting = self.settled(bounds, sentences)
+        waiting = self.settled(bounds, waiting)
         if waiting is None:
             return self.grounds
         if len(waiting) == 0:
@@ -51,10 +52,10 @@ class Search:
 
     def decide(self, bounds, choice, rest, depth):
         """Look for better times under which one part of a sentence after the other holds."""
-        sentence, grounds, is_goal = choice
+        sentence, grounds, is_goal, _ = choice
         mark = 1 << depth
         for part in sentence[1]:
-            found = self.explore(bounds.copied(), [(part, mark, is_goal), *rest], depth + 1)
+            found = self.explore(bounds.copied(), [(part, mark, is_goal, None), *rest], depth + 1)
             if self.is_done() or not found & mark:
                 return found
             grounds = grounds | (found ^ mark)
@@ -72,35 +73,39 @@ class Search:
         bounds.tighten(link[0], link[1], link[2], grounds)
         return True
 
-    def settled(self, bounds, sentences):
+    def settled(self, bounds, waiting):
         """Put all that is sure into the bounds; return the sentences that leave a choice, None if none can hold."""
-        waiting = sentences
         while True:
-            left = self.weighed(bounds, waiting)
-            if left is None:
+            ones, others = bounds.taken_changes()
+            waiting = self.weighed(bounds, waiting, ones, others)
+            if waiting is None:
                 return None
             if self.difference(bounds) <= self.best:
                 self.grounds = self.difference_grounds(bounds)
                 return None
-            choices = [row for row in left if len(row[0]) == 2]
-            if len(choices) == len(left):
-                return left
-            waiting = choices
+            if not bounds.has_changed():
+                return waiting
 
-    def weighed(self, bounds, sentences):
-        """Return what the bounds leave of the sentences, and put the links among them into the bounds."""
+    def weighed(self, bounds, waiting, ones, others):
+        """Return what the bounds leave of the sentences, and put the links among them into the bounds.
+
+        A sentence that has been judged is judged anew only if bounds between its instants have changed.
+        """
         left = []
-        for sentence, grounds, is_goal in sentences:
+        for row in waiting:
+            sentence, grounds, is_goal, instants = row
+            if instants is not None and (instants & ones == 0 or instants & others == 0):
+                left.append(row)
+                continue
             self.grounds = grounds
             told = self.judged(sentence, bounds)
             if told is False:
                 return None
-            if told is True:
-                continue
             for part in parts_of(told):
-                if len(part) == 3 and not self.is_added(bounds, part, self.grounds):
+                if len(part) == 2:
+                    left.append((part, self.grounds, is_goal, instants_of(part)))
+                elif not self.is_added(bounds, part, self.grounds):
                     return None
-                left.append((part, self.grounds, is_goal))
         return left
 
     def judged(self, sentence, bounds):
@@ -108,27 +113,17 @@ class Search:
         if sentence is True or sentence is False:
             return sentence
         if len(sentence) == 3:
-            one, other, most = sentence
-            if bounds.table[one][other] <= most:
-                return True
-            if bounds.table[other][one] + most < 0:
-                self.grounds = self.grounds | bounds.grounds[other][one]
-                return False
-            return sentence
+            return self.judged_link(sentence, bounds)
+        word, parts = sentence
         before = self.grounds
-        told = self.judged_parts(sentence[0], sentence[1], bounds)
-        if told is True:
-            self.grounds = before
-        return told
-
-    def judged_parts(self, word, parts, bounds):
-        """Return what the bounds leave of the parts of a sentence."""
         left = []
         for part in parts:
-            told = self.judged(part, bounds)
+            told = self.judged_link(part, bounds) if len(part) == 3 else self.judged(part, bounds)
             if told is True or told is False:
                 # One part that does not hold decides ALL, one that holds decides SOME.
                 if (told is True) != (word == ALL):
+                    if told is True:
+                        self.grounds = before
                     return told
             elif told[0] == word:
                 left.extend(told[1])
@@ -136,7 +131,19 @@ class Search:
                 left.append(told)
         return joined(word, left, word == ALL)
 
+    def judged_link(self, link, bounds):
+        """Return the link if the bounds leave open whether it holds, else whether it does."""
+        one, other, most = link
+        if bounds.table[one][other] <= most:
+            return True
+        if bounds.table[other][one] + most < 0:
+            self.grounds = self.grounds | bounds.grounds[other][one]
+            return False
+        return link
+
 
 def parts_of(sentence):
     """Return the sentences that must hold if this one must."""
+    if sentence is True:
+        return []
     return sentence[1] if sentence[0] == ALL else [sentence]

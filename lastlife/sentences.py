@@ -55,3 +55,11 @@ def denied(sentence):
         return (sentence[1], sentence[0], -sentence[2] - 1)
     parts = [denied(part) for part in sentence[1]]
     return some_of(parts) if sentence[0] == ALL else all_of(parts)
+
+
+def instants_of(sentence):
+    """Return the instants that a sentence with parts names, as the bits of a whole number."""
+    found = 0
+    for part in sentence[1]:
+        found = found | (1 << part[0] | 1 << part[1] if len(part) == 3 else instants_of(part))
+    return found

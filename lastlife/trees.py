@@ -33,7 +33,6 @@ class EndlessOf:
 def read_on(links, waiting):
     """Read waiting formulas until a "some" is the first one or nothing waits; return the links and what waits."""
     links = list(links)
-    waiting = list(waiting)
     while len(waiting) > 0 and waiting[0][0] != "some":
         first = waiting[0]
         if first[0] == "link":

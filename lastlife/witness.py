@@ -39,8 +39,6 @@ class Witness:
             word, name = self.world.row
             persons.append(("last", name) if word == "wed" else name)
         ranks = sorted(set([self.world.rank(person) for person in persons]))
-        if self.is_tie_turned():
-            ranks = ranks[::-1]
         found = []
         for person in persons:
             year = self.first_year(person)
@@ -48,11 +46,6 @@ class Witness:
                 number = person[2] if len(person) == 3 else 0
                 found.append((year, ranks.index(self.world.rank(person)), number, person))
         return sorted(found)
-
-    def is_tie_turned(self):
-        """Return whether of newcomers of unlike ranks who are born in one year those of the later rank come first."""
-        tied = self.world.tied
-        return tied is not None and self.bounds.most(ZERO, tied) < NO_BOUND
 
     def given_name(self, person):
         """Return the name of a person."""
@@ -67,7 +60,7 @@ class Witness:
         for parent in self.world.possible_parents(person[1]):
             born = self.row_year(self.world.birth(parent))
             if born is not None and born + customs.parent_age <= birth:
-                died = None if self.world.row == ("died", parent) else self.row_year(self.world.death(parent, True))
+                died = self.row_year(self.world.death(parent, True))
                 if died is None or birth <= died + customs.years_after:
                     return self.given_name(parent)
         return None
@@ -85,7 +78,7 @@ class Witness:
     def new_rows(self):
         """Return the rows behind the year, without the row in question."""
         found = []
-        for word, name in self.world.instants:
+        for word, name in list(self.world.instants):
             year = self.row_year((self.world.instants[(word, name)], 0))
             if year is not None:
                 found.append(self.event_row(word, name, year))

@@ -48,7 +48,6 @@ class World:
         self.links = [(ZERO, END, -since - 1), (END, LATE_AT, -GAP), (LATE_AT, NEVER, -GAP), (DEAD, END, -1)]
         self.rules = []
         self.named = []
-        self.tied = None
         for life in measuring:
             self.links.append((ZERO, DEAD, -since - 1 if past.is_alive(life) else -past.death(life)))
 
@@ -158,7 +157,7 @@ class World:
         if not isinstance(kin, Children):
             places = [("grand", kin.life), *[("child", person) for person in self.past.children(kin.life)]]
         newcomers = [person for place in places for person in self.pool(place)]
-        if shorter and self.row is not None and self.row[0] == "born":
+        if shorter and self.row[0] == "born":
             newcomers = [person for person in newcomers if person != self.row[1]]
         return [*kin.members(self.past), *newcomers]
 
@@ -216,13 +215,6 @@ class World:
     def rank(self, newcomer):
         """Return a rank that newcomers share who stand in the order of their births."""
         return (newcomer[0], newcomer[1], 0 if self.is_subject(newcomer) else 1)
-
-    def tie(self):
-        """Return the instant whose time tells who is the first one of newcomers of one year."""
-        if self.tied is None:
-            self.tied = self.count
-            self.count += 1
-        return self.tied
 
     def require_row(self):
         """Add that the row in question is right behind the others."""

@@ -85,7 +85,8 @@ class TestGreatestFault(FamilyTest):
                 (7, (0, 2), right, None), (7, [0, 2], list(right), None), (7, (0, 4), right, "index"),
                 (7, (2,), right, "start"), (7, (), right, "end"), (7, (0, 0), right, "joint"), (3, (0,), right, "end"),
                 (6, (0, 2), right, "sum"), (7, (0, 2), (0, 3), "count"), (7, (0, 2), (0, 4, 8), "link"),
-                (7, (0, 2), (0, 3, 6), "amount"), (9, (0, 1, 0, 2), right, "amount")):
+                (7, (0, 2), (0, 3, 6), "amount"), (9, (0, 1, 0, 2), right, "amount"), (7, (0, 2), (5, 8, 12), None),
+                (7, (0, 2), (-7, -4, -1), "amount"), (7, (0, 2), (1, 3, 6), "amount")):
             self.assertEqual(greatest_fault(EXAMPLE, 2, 0, Greatest(amount, path, times)), what, (amount, path, times))
 
     def test_endless(self):

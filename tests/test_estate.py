@@ -92,9 +92,10 @@ class TestHeld(FamilyTest):
             self.assertEqual(7 in found, until in (None, NEVER))
 
     def test_who_never_takes_never_holds(self):
-        deed = Deed(Gift("use", Named("b"), Year(5), By(Year(2), Year(1))))
-        self.same((holders(deed, "use", family(), 9), held(deed, family(), 9), course(deed, family())),
-                  ((), (), ((0, ()),)))
+        for gift in (Gift("use", Named("b"), Year(5), By(Year(2), Year(1))), Gift("use", Named("b"), NEVER)):
+            deed = Deed(gift)
+            self.same((holders(deed, "use", family(), 9), held(deed, family(), 9), course(deed, family())),
+                      ((), (), ((0, ()),)))
 
     def test_dates_ahead_of_year_0_and_behind_the_last_year(self):
         deed = Deed(Gift("use", Named("b"), Year(-5), until=Year(0), part=(1, 2)),

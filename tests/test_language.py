@@ -148,6 +148,46 @@ class TestLanguage(unittest.TestCase):
                 for word in found:
                     self.assertNotIn(word, BARRED_WORDS, path)
 
+    def test_stars_in_calls_stand_before_names(self):
+        for path, tree in trees():
+            for node in ast.walk(tree):
+                if isinstance(node, ast.Call):
+                    for thing in node.args:
+                        if isinstance(thing, ast.Starred):
+                            named = isinstance(thing.value, ast.Name)
+                            kept = isinstance(thing.value, ast.Attribute) and isinstance(thing.value.value, ast.Name)
+                            self.assertTrue(named or kept, (path, ast.unparse(node)))
+
+    def test_is_stands_beside_none_true_and_false(self):
+        for path, tree in trees():
+            for node in ast.walk(tree):
+                if isinstance(node, ast.Compare):
+                    for sign, thing in zip(node.ops, node.comparators):
+                        if isinstance(sign, (ast.Is, ast.IsNot)):
+                            self.assertIsInstance(thing, ast.Constant, (path, ast.unparse(node)))
+                            self.assertIn(thing.value, (None, True, False))
+
+    def test_views_and_the_like_are_iterated_at_once(self):
+        takers = "list tuple dict sorted sum any all enumerate zip min max len".split()
+        for path, tree in trees():
+            above = {inner: node for node in ast.walk(tree) for inner in ast.iter_child_nodes(node)}
+            for node in ast.walk(tree):
+                called = node.func if isinstance(node, ast.Call) else None
+                view = isinstance(called, ast.Attribute) and called.attr in ("items", "keys", "values")
+                if view or isinstance(called, ast.Name) and called.id in ("zip", "enumerate", "reversed", "range"):
+                    user = above[node]
+                    loops = isinstance(user, (ast.For, ast.comprehension)) and user.iter is node
+                    calls = isinstance(user, ast.Call) and isinstance(user.func, ast.Name) and user.func.id in takers
+                    self.assertTrue(loops or calls, (path, ast.unparse(user)))
+
+    def test_no_local_name_is_a_class_or_an_import_of_its_file(self):
+        for path, tree in trees():
+            taken = {node.name for node in ast.walk(tree) if isinstance(node, ast.ClassDef)}
+            taken |= {alias.name for node in imported(tree) for alias in node.names}
+            for node in ast.walk(tree):
+                if isinstance(node, ast.Name) and isinstance(node.ctx, ast.Store):
+                    self.assertNotIn(node.id, taken, path)
+
     def test_no_name_is_a_method_and_an_attribute_of_one_class(self):
         methods, attributes, bases = {}, {}, {}
         for _, tree in trees():

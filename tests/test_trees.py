@@ -7,7 +7,7 @@ from lastlife.errors import NoInstant
 from lastlife.formulas import formula_choices, formula_holds
 from lastlife.solving import Kept
 from lastlife.trees import EndlessOf, GreatestOf, Impossible, greatest_of, possible, possible_fault
-from tests.helpers import NOT_WHOLE, FamilyTest
+from tests.helpers import NOT_WHOLE, Always, FamilyTest
 from tests.systems_samples import BIG, small_times
 
 F = ("all", ("some", ("link", 1, 0, 3), ("link", 0, 1, -8)), ("link", 0, 1, -5))
@@ -82,7 +82,7 @@ class TestPossibleFault(FamilyTest):
         right = ("some", ("ring", 0, 1), ("ring", 0, 2))
         for tree, what in (
                 (right, None), (["some", ["ring", 1, 0], ("ring", 2, 0)], None),
-                (("some", ("ring", 0, 1, 0, 1), ("ring", 0, 2)), None), ((), "tree"), (None, "tree"), ("some", "tree"),
+                (("some", ("ring", 0, 1, 0, 1), ("ring", 0, 2)), None), ((), "tree"), (None, "tree"), ("some", "tree"), ((Always(), 0), "tree"),
                 (("all",), "tree"), ((("some",),), "tree"), (("some", None, ("ring", 0, 2)), "tree"),
                 (("some", ("ring", 0, 1), ()), "tree"), (("ring",), "empty"), (("some", ("ring",), None), "empty"),
                 (("ring", 0), "index"), (("some", ("ring", 3), ("ring", 0, 2)), "index"),
@@ -94,6 +94,8 @@ class TestPossibleFault(FamilyTest):
 
     def test_it_is_read_only_as_far_as_the_formula_leads(self):
         self.assertIsNone(possible_fault(2, ("all", NO, F), Impossible(("some",))))
+        self.assertEqual(possible_fault(2, ("all", BELOW, ("link", 0, 1, -3)), Impossible(("ring", 0, 1))), "sum")
+        self.assertIsNone(possible_fault(2, ("all", BELOW, ("link", 0, 1, -4)), Impossible(("ring", 0, 1))))
         self.assertEqual(possible_fault(2, YES, Impossible(("some",))), "branches")
         self.assertEqual(possible_fault(2, YES, Impossible(("ring", 0))), "index")
         self.assertEqual(possible_fault(2, ("some",), Impossible(("ring",))), "empty")
