@@ -64,6 +64,7 @@ class TestDeed(FamilyTest):
         self.bad(2, "part", gift("a", part=(1, 2)), gift("b", part=(1, 3)), gift("c", part=(166667, 10 ** 6)))
         self.bad(1, "part", gift("a"), gift("b", part=(1, 10 ** 6)))
         self.assertEqual(len(Deed(gift("a"), gift("b", over="a"), gift("c", over="b"))), 3)
+        self.assertEqual(len(Deed(gift("a", part=(1, 2)), gift("b", over="a"), gift("c", part=(1, 2)))), 3)
         self.bad(2, "part", gift("a"), gift("b", over="a"), gift("c"))
 
     def test_gift_by_gift_and_the_order_of_the_words(self):

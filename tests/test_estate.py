@@ -105,6 +105,10 @@ class TestHeld(FamilyTest):
         late = family(("died", MOST_YEAR, "a"))
         self.same(course(deed, late)[1:], ((MOST_YEAR, (("b", (1, 4)), ("c", (1, 4)))),))
 
+    def test_a_gift_that_is_held_from_the_first_year_on(self):
+        deed = Deed(Gift("use", Named("b"), Year(1), until=Year(2), part=(1, 2)))
+        self.same(course(deed, family()), ((0, ()), (1, (("b", (1, 2)),)), (2, ())))
+
     def test_a_change_that_changes_nothing_is_no_turn(self):
         deed = Deed(Gift("use", Named("b"), Year(3), until=Year(6), part=(1, 2)),
                     Gift("farm", Named("b"), Year(6), part=(1, 2)))
@@ -147,6 +151,9 @@ class TestHeld(FamilyTest):
         self.refused(NoLife, {"name": "q"}, course, deed, family())
         deed = Deed(Gift("use", Named("b"), Death("r"), until=Death("q")))
         self.refused(NoLife, {"name": "r"}, held, deed, family(), 1)
+        deed = Deed(Gift("use", Named("p"), Death("r"), until=Death("q")))
+        self.refused(NoLife, {"name": "p"}, held, deed, family(), 1)
+        self.refused(NoLife, {"name": "p"}, course, deed, family())
         ahead = Deed(Gift("use", Named("b"), Year(5), until=Death("q")), Gift("farm", Named("c"), Year(5), over="use"))
         self.same(holders(ahead, "farm", family(), 6), ())
 

@@ -36,7 +36,7 @@ class TestHolds(FamilyTest):
                 (("link", 0, 1, 2), True), (["link", 0, 1, 1], False), (("link", 1, 0, -2), True),
                 (("link", 1, 0, -3), False), (YES, True), (NO, False), (("not", YES), False), (("not", NO), True),
                 (("not", ("not", LINK)), True), (("not", LINK), False), (("all", LINK, NO), False),
-                (["some", NO, LINK], True), (("some", NO, ("not", LINK)), False), (("all", LINK, LINK), True),
+                (["some", NO, LINK], True), (["some", LINK, NO], True), (("some", NO, ("not", LINK)), False), (("all", LINK, LINK), True),
                 (("not", ("some", NO, ("all", ("not", LINK)))), True), (("link", 0, 0, -1), False),
                 (("link", 0, 1, BIG), True)):
             self.same(formula_holds(formula, (5, 3)), wanted)
@@ -101,7 +101,7 @@ class TestBadFormulas(FamilyTest):
     def test_form(self):
         for thing in (*ODD, 5, "link", "all", (5,), (True,), (None, 1), ("links", 0, 1, 2), ("link", 0, 1), ("not",),
                       ("link", 0, 1, 2, 3), ("link", 0, 1, True), ("link", 0, None, 1), ("link", 1.0, 0, 1), ("ALL",),
-                      ("not", LINK, LINK), ("link",), {"all": 1}, (["all"],), ("",), Always()):
+                      ("not", LINK, LINK), ("link",), {"all": 1}, (["all"],), ("",), Always(), (Always(), 0, 1, 2)):
             self.bad("form", thing)
             self.bad("form", ("some", LINK, thing))
 

@@ -23,6 +23,9 @@ class TestReach(FamilyTest):
         self.assertEqual(found.families, (RECORD, RECORD.shorter()))
         self.assertIsInstance(found.families, tuple)
         self.same((Reach(0).last_row, Reach(0).families, Reach(0).is_endless), (None, (), False))
+        short = Reach(3, RECORD.shorter())
+        self.same(short.last_row, ("died", 5, "a"))
+        self.assertEqual(short.families, (RECORD.shorter(), family()))
 
     def test_nothing_is_checked(self):
         for number in (-1, True, "x", None, 1.5):

@@ -150,6 +150,38 @@ class TestOpen(OpeningTest):
         self.same((standing(deed, "gift", family(*twins), "x", year=7), standing(deed, "gift", family(*twins), "y", year=7)),
                   ("takes", "out"))
 
+    def test_the_first_one_of_two_who_reach_it_in_unlike_years(self):
+        deed = deed_of(FirstReaching(Children("c"), 3), Year(20))
+        record = family(("born", 2, "c", "x"), ("born", 5, "c", "y"))
+        for year, x, y in ((3, "open", None), (4, "takes", None), (5, "takes", "out"), (9, "takes", "out")):
+            self.same(standing(deed, "gift", record, "x", year=year), x)
+            if y is not None:
+                self.same(standing(deed, "gift", record, "y", year=year), y)
+        self.check(deed, record, 3, True)
+        self.check(deed, record, 4, False)
+
+    def test_the_first_one_of_newcomers(self):
+        kin = Children("c")
+        for age, date in ((0, First(kin, "death")), (2, First(kin, "death")), (0, Last(kin, 4)), (3, First(kin, 3))):
+            self.check(deed_of(FirstReaching(kin, age), date), family(), 0, True)
+            self.same(newcomers_may_take(deed_of(FirstReaching(kin, age), date), "gift", family()), True)
+
+    def test_a_wedding_in_the_year_of_the_death(self):
+        deed = deed_of(Mate("a"), Year(1), By(Death("a"), Year(1)))
+        for wed_age, wanted in ((0, True), (41, True), (42, False)):
+            self.check(deed, family(customs=Customs(wed_age=wed_age)), 0, wanted)
+            self.same(newcomers_may_take(deed, "gift", family(customs=Customs(wed_age=wed_age))), wanted)
+
+    def test_who_takes_ahead_as_a_child_does_not_take_as_a_grandchild(self):
+        deed = Deed(Gift("one", Whole(Children("b")), Death("b")), Gift("two", Whole(GRAND), Death("b"), over="one"))
+        record = family(("died", 1, "a"))
+        # In 2 one more child of a can come, and have a child itself.
+        for year, wanted in ((1, True), (2, False), (3, False)):
+            told = newcomers_may_take(deed, "two", record, year=year)
+            self.same(told, wanted)
+            self.check(deed, record, year, wanted, "two")
+            self.check(deed, record, year, True, "one")
+
     def test_newcomers_of_one_year_come_in_either_order(self):
         lives = Lives(Customs(1, years_after=0), (("a", 9, None), ("b", 5, "a")))
         deed = deed_of(FirstReaching(GRAND, 2), Death("a") + 2)

@@ -117,6 +117,45 @@ class TestNumbers(ReachTest):
         certain = Deed(Gift("one", Named("a"), Year(0)), Gift("two", Whole(KIN), WAR, over="one"))
         self.check(0, certain, name="two")
 
+    def test_newcomers_of_several_kins(self):
+        """A child of a lives, while a child of b dies young or not; then a child of c is wanted, too."""
+        lives = lives_of(("a", 40, None), ("b", 30, None), ("c", 30, None))
+        ahead = Gift("one", Reaching(Children("b"), 30), Death("b"))
+        wanted = By(First(Children("c"), "birth"), Death("c"))
+        for rules, more in (((), ()), ((wanted,), ()), ((), (wanted,)), ((wanted,), (wanted,))):
+            first = Gift("one", ahead.taker, ahead.date, *rules)
+            deed = Deed(first, Gift("two", Living(KIN), Death("a") + 20, *more, over="one"))
+            self.check(29, deed, Record(lives), name="two")
+            self.check(29, deed, Record(lives), name="one")
+        self.check(19, Deed(Gift("one", Told(KIN), Death("b")), Gift("two", Living(KIN), Death("a") + 20, over="one")),
+                   Record(lives), name="two")
+
+    def test_who_takes_ahead_as_a_child_does_not_take_as_a_grandchild(self):
+        lives = lives_of(("a", 40, None), ("b", 20, "a"))
+        deed = Deed(Gift("one", Whole(Children("b")), Death("b") + 5),
+                    Gift("two", Whole(GRAND), Death("b") + 5, over="one"))
+        record = Record(lives, (("died", 1, "a"),))
+        self.check(0, deed, record, name="two", year=3)
+        self.check(1, deed, record, name="one", year=3)
+
+    def test_a_happening_may_have_the_name_of_a_life(self):
+        self.check(None, deed_of(Named("b"), Happening("a")))
+        self.check(3, deed_of(Named("b"), Death("a"), By(Happening("b"), Death("a") + 3)))
+
+    def test_weddings_of_the_young_and_in_the_year_of_a_death(self):
+        young = Record(lives_of(("a", 0, None), ("b", 30, None), limit=3, wed_age=50))
+        self.check(None, deed_of(Mate("a"), Year(3)), young, measuring=("b",))
+        lives = lives_of(("a", 40, None), ("b", 30, None), ("c", 20, None))
+        record = Record(lives, (("died", 1, "c"),))
+        deed = deed_of(Mate("a"), Year(0), By(Death("a"), Year(2)), By(Death("b"), Year(2)))
+        self.check(1, deed, record, measuring=("c",))
+        self.check(0, deed, record)
+
+    def test_the_death_of_a_child_of_whom_nothing_else_is_asked(self):
+        b = Named("b")
+        for date, wanted in ((First(KIN, "death"), 6), (Last(KIN, "death"), 6)):
+            self.check(wanted, deed_of(b, Death("b"), By(date, Death("b") + 6)))
+
     def test_measuring_lives(self):
         deed = deed_of(Living(KIN), Death("a") + 4)
         for measuring, wanted in ((("a",), 3), (("b",), None), (("a", "b"), 3), (["b", "a"], 3), (None, 3)):
@@ -198,8 +237,9 @@ class TestReachFault(FamilyTest):
         born = Record(TWO, (*self.rows[:2], ("born", 4, "a", "j"), ("born", 4, "a", "k"), ("died", 8, "j"), ("died", 8, "k")))
         self.assertIsNone(self.judged(5, born))
         self.assertIsNone(self.judged(5, self.best, self.best, year=5))
-        endless = Record(TWO, (("died", 2, "b"), ("born", 30, "a", "k")))
-        self.assertIsNone(self.judged(None, endless, measuring=("b",)))
+        for year, what in ((23, "lag"), (24, None), (30, None)):
+            endless = Record(TWO, (("died", 2, "b"), ("born", year, "a", "k")))
+            self.assertEqual(self.judged(None, endless, measuring=("b",)), what)
 
     def test_words(self):
         other_lives = Record(lives_of(("a", 40, None)), (("died", 3, "a"), ("born", 4, "a", "k"), ("died", 8, "k")))

@@ -50,7 +50,7 @@ class TestSolvedFault(FamilyTest):
 
     def test_ring(self):
         for path, what in (((), "empty"), ((5,), "index"), ((0, -1), "index"), ((0, 5, 5), "index"),
-                           ((3, 4, 1), "joint"), ((0,), "joint"), ((0, 2), "joint"), ((0, 1), "sum"), ([2, 3], "sum"),
+                           ((3, 4, 1), "joint"), ((0,), "joint"), ((0, 2), "joint"), ((0, 2, 1), "joint"), ((0, 1), "sum"), ([2, 3], "sum"),
                            ((4, 3, 1), None), ([3, 1, 4], None), ((1, 4, 3), None), ((1, 4, 3, 1, 4, 3), None)):
             self.assertEqual(self.judged(Ring(path)), what, path)
         self.assertEqual(solved_fault(EXAMPLE.with_links((2, 0, 3)), Ring((4, 3, 1))), "sum")
