@@ -27,9 +27,7 @@ def looked_for(search, world, sentence):
     """Look in the world for times under which the sentence holds; return whether the search has found better ones."""
     if sentence is False:
         return False
-    before = search.best
-    search.explore(bounded(world), [(sentence, 0, True, None), *[(rule, 0, False, None) for rule in world.rules]])
-    return search.best > before
+    return search.find(bounded(world), sentence, world.rules)
 
 
 def some_record(past, since, chain, ask):

@@ -28,16 +28,23 @@ def holds_all(names, others):
     return all([other in names for other in others])
 
 
+def outer_first(sets):
+    """Return first the set of all names, then those of one name, then the others, greater ones first."""
+    lone = [members for members in sets if len(members) == 1]
+    return [sets[-1], *lone, *[members for members in sets[::-1] if len(members) > 1]]
+
+
 def measuring_table(deed, name, lives):
     """Return the number of the gift at the beginning for each set of measuring lives."""
     record = Record(lives)
     found = {}
-    # For more measuring lives the number is no greater, so greater sets tell from where to look.
-    for members in sets_of(lives.names)[::-1]:
-        floor = max([found[other] for other in found if holds_all(other, members)], default=0)
-        if floor < NO_BOUND:
-            floor = Reaches(deed, name, record, 0, members).lags.look(floor)
-        found[members] = floor
+    # For more measuring lives the number is no greater, so other sets tell between which numbers to look.
+    for members in outer_first(sets_of(lives.names)):
+        least = max([found[other] for other in found if holds_all(other, members)], default=0)
+        most = min([found[other] for other in found if holds_all(members, other)], default=NO_BOUND)
+        if least < most:
+            least = Reaches(deed, name, record, 0, members).lags.look(least, most)
+        found[members] = least
     return tuple([(members, None if found[members] == NO_BOUND else found[members])
                   for members in sets_of(lives.names)])
 
@@ -46,6 +53,9 @@ def measuring_sets(deed, name, lives):
     """Return the sets for which the gift is good while it is not for any smaller set within."""
     record = Record(lives)
     found = []
+    # For fewer measuring lives the number is no less, so if it is too great for all of them, it is for each set.
+    if not is_good(deed, name, record):
+        return ()
     for members in sets_of(lives.names):
         if not any([holds_all(members, other) for other in found]):
             if is_good(deed, name, record, measuring=members):

@@ -19,6 +19,7 @@ class Search:
         self.enough = enough
         self.bounds = None
         self.grounds = 0
+        self.failures = []
 
     def is_done(self):
         """Return whether no further times are asked for."""
@@ -32,12 +33,19 @@ class Search:
         """Return the grounds of this difference."""
         return 0 if self.pair is None else bounds.grounds[self.pair[0]][self.pair[1]]
 
-    def explore(self, bounds, waiting, depth=0):
+    def find(self, bounds, goal, rules):
+        """Look for better times within the bounds under which a goal and rules hold; return whether there are some."""
+        before = self.best
+        waiting = [(sentence, 0, None, source) for source, sentence in enumerate([goal, *rules])]
+        self.failures = [1] * len(waiting)
+        self.explore(bounds, waiting, 0)
+        return self.best > before
+
+    def explore(self, bounds, waiting, depth):
         """Look for better times within the bounds, which change; return the grounds if there are no others.
 
-        Each sentence that must hold is told with its grounds, with whether it is a goal, and with the bits of its
-        instants, None if it has not been judged. Goals stand ahead of the others, and they are decided first and
-        in their order. Of the others, the last ones hang on the first.
+        Each sentence that must hold is told with its grounds, with the bits of its instants, None if it has not been
+        judged, and with its source, the number of the goal or the rule of which it is a part; the goal has 0.
         """
         waiting = self.settled(bounds, waiting)
         if waiting is None:
@@ -46,16 +54,26 @@ class Search:
             self.best = self.difference(bounds)
             self.bounds = bounds
             return self.difference_grounds(bounds)
-        if waiting[0][2]:
-            return self.decide(bounds, waiting[0], waiting[1:], depth)
-        return self.decide(bounds, waiting[-1], waiting[:-1], depth)
+        at = self.next_choice(waiting)
+        return self.decide(bounds, waiting[at], [*waiting[:at], *waiting[at + 1:]], depth)
+
+    def next_choice(self, waiting):
+        """Return the place of the sentence to decide next.
+
+        The goal comes first, then what leaves few choices and has often failed. The last rules hang on the first.
+        """
+        prices = []
+        for at, (sentence, _, _, source) in enumerate(waiting):
+            price = 1000 * len(sentence[1]) // self.failures[source]
+            prices.append((0, price, at, at) if source == 0 else (1, price, -at, at))
+        return min(prices)[3]
 
     def decide(self, bounds, choice, rest, depth):
         """Look for better times under which one part of a sentence after the other holds."""
-        sentence, grounds, is_goal, _ = choice
+        sentence, grounds, _, source = choice
         mark = 1 << depth
         for part in sentence[1]:
-            found = self.explore(bounds.copied(), [(part, mark, is_goal, None), *rest], depth + 1)
+            found = self.explore(bounds.copied(), [(part, mark, None, source), *rest], depth + 1)
             if self.is_done() or not found & mark:
                 return found
             grounds = grounds | (found ^ mark)
@@ -93,20 +111,25 @@ class Search:
         """
         left = []
         for row in waiting:
-            sentence, grounds, is_goal, instants = row
+            sentence, grounds, instants, source = row
             if instants is not None and (instants & ones == 0 or instants & others == 0):
                 left.append(row)
                 continue
             self.grounds = grounds
             told = self.judged(sentence, bounds)
-            if told is False:
+            parts = parts_of(told)
+            if told is False or not self.are_added(bounds, parts):
+                self.failures[source] += 1
                 return None
-            for part in parts_of(told):
-                if len(part) == 2:
-                    left.append((part, self.grounds, is_goal, instants_of(part)))
-                elif not self.is_added(bounds, part, self.grounds):
-                    return None
+            left.extend([(part, self.grounds, instants_of(part), source) for part in parts if len(part) == 2])
         return left
+
+    def are_added(self, bounds, parts):
+        """Add the links among the parts of a sentence; return whether they can hold, as is_added does."""
+        for part in parts:
+            if len(part) == 3 and not self.is_added(bounds, part, self.grounds):
+                return False
+        return True
 
     def judged(self, sentence, bounds):
         """Return what the bounds leave of a sentence, and add the grounds for which parts of it cannot hold."""
@@ -144,6 +167,6 @@ class Search:
 
 def parts_of(sentence):
     """Return the sentences that must hold if this one must."""
-    if sentence is True:
+    if sentence is True or sentence is False:
         return []
     return sentence[1] if sentence[0] == ALL else [sentence]

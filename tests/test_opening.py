@@ -160,6 +160,24 @@ class TestOpen(OpeningTest):
         self.check(deed, record, 3, True)
         self.check(deed, record, 4, False)
 
+    def test_the_first_one_of_lives_of_whom_the_younger_is_told_first(self):
+        lives = Lives(Customs(), (("a", 40, None), ("b", 5, "a"), ("c", 10, "a"), ("d", 10, "a")))
+        deed = deed_of(FirstReaching(KIN, 12), Year(20))
+        record = Record(lives, (("died", 2, "a"),))
+        self.same([standing(deed, "gift", record, person) for person in "bcd"], ["out", "takes", "out"])
+        self.same([standing(deed, "gift", record, person, year=0) for person in "bcd"], ["open", "open", "open"])
+        self.check(deed, record, 2, False)
+        self.check(deed, record, 0, True)
+
+    def test_parents_of_grandchildren(self):
+        lives = Lives(Customs(12), (("a", 60, None), ("b", 0, "a"), ("c", 20, "a"), ("d", 30, "a")))
+        for rows, wanted in (((), True), ((("died", 1, "c"),), True), ((("died", 1, "c"), ("died", 2, "d")), True),
+                             ((("died", 1, "c"), ("died", 1, "d")), False)):
+            # In 3 no newcomer is a parent yet, and b is too young.
+            record = Record(lives, rows)
+            self.check(deed_of(Whole(GRAND), Year(3)), record, 2, wanted)
+            self.check(deed_of(Whole(GRAND), Year(30)), record, 2, True)
+
     def test_the_first_one_of_newcomers(self):
         kin = Children("c")
         for age, date in ((0, First(kin, "death")), (2, First(kin, "death")), (0, Last(kin, 4)), (3, First(kin, 3))):
