@@ -128,7 +128,7 @@ class Cast:
                     found.append([firsts[one], firsts[other]])
                 found.extend([[firsts[one], firsts[other], firsts[third]] for third in places[next_at + 1:]])
             if roles[one] == 2:
-                found.extend([[(*one, sizes[one] - 1), firsts[other]] for other in places if other != one])
+                found.extend([[(*one, sizes[one] - 1), firsts[beside]] for beside in places if beside != one])
         return found
 
     def parent_pairs(self, subject):
