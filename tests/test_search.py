@@ -8,8 +8,8 @@ from lastlife.bounds import NO_BOUND, wide_bounds
 from lastlife.search import Search
 from lastlife.sentences import ALL, SOME, all_of, denied, instants_of, some_of
 
-COUNT = 3
-SPAN = 4
+COUNT = 4
+SPAN = 2
 ALL_TIMES = [(0, *times) for times in itertools.product(range(-SPAN, SPAN + 1), repeat=COUNT - 1)]
 
 
@@ -130,8 +130,8 @@ class TestSearch(unittest.TestCase):
     def test_the_greatest_difference_is_found(self):
         dice = random.Random(7)
         met = {True: 0, False: 0}
-        for _ in range(400):
-            goal, *rules = [made(dice) for _ in range(dice.randint(1, 5))]
+        for _ in range(1500):
+            goal, *rules = [made(dice) for _ in range(dice.randint(1, 8))]
             wanted = self.greatest([goal, *rules])
             search = Search((1, 2), -100)
             found = search.find(near_bounds(), goal, rules)
@@ -161,6 +161,19 @@ class TestSearch(unittest.TestCase):
             sentences = [made(dice) for _ in range(4)]
             search = Search(None, 0, 1)
             self.assertEqual(search.find(near_bounds(), sentences[0], sentences[1:]), self.greatest(sentences) is not None)
+
+    def test_the_grounds_on_which_a_link_cannot_hold(self):
+        bounds = wide_bounds(COUNT)
+        bounds.tighten(0, 1, 3, 0b10)
+        bounds.tighten(1, 2, 1, 0b100)
+        search = Search(None, 0, 1)
+        self.assertTrue(search.is_added(bounds, (2, 0, -4), 0b1000))
+        self.assertFalse(search.is_added(bounds, (2, 0, -5), 0b10000))
+        self.assertEqual(search.grounds, 0b10110)
+        self.assertIs(search.judged((SOME, [(2, 1, -2), (1, 0, -4)]), bounds), False)
+        search.grounds = 0
+        self.assertEqual(search.judged((SOME, [(2, 1, -2), (3, 0, 0), (0, 3, 1)]), bounds), (SOME, [(3, 0, 0), (0, 3, 1)]))
+        self.assertEqual(search.grounds, 0b100)
 
     def test_no_bound(self):
         search = Search((1, 2))
