@@ -135,13 +135,21 @@ class Search:
         """Return what the bounds leave of a sentence, and add the grounds for which parts of it cannot hold."""
         if sentence is True or sentence is False:
             return sentence
-        if len(sentence) == 3:
-            return self.judged_link(sentence, bounds)
-        word, parts = sentence
+        word, parts = (ALL, [sentence]) if len(sentence) == 3 else sentence
+        table = bounds.table
         before = self.grounds
         left = []
         for part in parts:
-            told = self.judged_link(part, bounds) if len(part) == 3 else self.judged(part, bounds)
+            if len(part) == 2:
+                told = self.judged(part, bounds)
+            else:
+                one, other, most = part
+                told = part
+                if table[one][other] <= most:
+                    told = True
+                elif table[other][one] + most < 0:
+                    self.grounds = self.grounds | bounds.grounds[other][one]
+                    told = False
             if told is True or told is False:
                 # One part that does not hold decides ALL, one that holds decides SOME.
                 if (told is True) != (word == ALL):
@@ -153,16 +161,6 @@ class Search:
             else:
                 left.append(told)
         return joined(word, left, word == ALL)
-
-    def judged_link(self, link, bounds):
-        """Return the link if the bounds leave open whether it holds, else whether it does."""
-        one, other, most = link
-        if bounds.table[one][other] <= most:
-            return True
-        if bounds.table[other][one] + most < 0:
-            self.grounds = self.grounds | bounds.grounds[other][one]
-            return False
-        return link
 
 
 def parts_of(sentence):
