@@ -23,9 +23,10 @@ FIRST_FREE = 5
 # Unrecorded deaths stand so far behind all rows, and what never comes so far behind these.
 GAP = 1000000000000
 
-AT_END = (END, 0)
-AT_LATE = (LATE_AT, 0)
-AT_NEVER = (NEVER, 0)
+# The times of LATE_AT, NEVER and END themselves; at module level stand only plain values.
+AT_LATE = (1, 0)
+AT_NEVER = (2, 0)
+AT_END = (3, 0)
 
 
 def link(one, other, most=0):

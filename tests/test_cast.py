@@ -8,6 +8,7 @@ from lastlife.dates import Close, Death, First, Last, Year
 from lastlife.gifts import Gift
 from lastlife.kin import Children, Grandchildren
 from lastlife.takers import FirstReaching, Living, Mate, Named, Reaching, Told, Whole
+from lastlife.world import AT_END, AT_LATE, AT_NEVER, DEAD, END, FIRST_FREE, LATE_AT, NEVER, ZERO
 from tests.helpers import family
 
 KIN, GRAND, OTHERS = Children("a"), Grandchildren("a"), Children("c")
@@ -20,6 +21,12 @@ def cast_of(*gifts, record=None):
 
 def gift(taker, date=None, *rules):
     return Gift("x", taker, date or Year(5), *rules)
+
+
+class TestWorld(unittest.TestCase):
+    def test_the_times_of_the_first_instants(self):
+        self.assertEqual((AT_LATE, AT_NEVER, AT_END), ((LATE_AT, 0), (NEVER, 0), (END, 0)))
+        self.assertEqual(sorted((ZERO, LATE_AT, NEVER, END, DEAD)), list(range(FIRST_FREE)))
 
 
 class TestCast(unittest.TestCase):

@@ -94,6 +94,8 @@ class TestLanguage(unittest.TestCase):
                 docstring = at == 0 and isinstance(node, ast.Expr) and isinstance(node.value, ast.Constant)
                 kinds = (ast.ImportFrom, ast.FunctionDef, ast.ClassDef, ast.Assign)
                 self.assertTrue(docstring or isinstance(node, kinds), path)
+                if isinstance(node, ast.Assign):
+                    ast.literal_eval(node.value)
 
     def test_statements_and_values(self):
         for path, tree in trees():
