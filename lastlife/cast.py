@@ -109,9 +109,10 @@ class Cast:
         sizes = self.own_sizes(subject)
         for place in self.places:
             if place[0] == "grand":
+                above = ("child", place[1])
+                many = sizes[place]
                 # Two newcomers can have one parent, unless the parents count themselves.
-                lone = sizes[("child", place[1])] == 0
-                sizes[("child", place[1])] += min(1, sizes[place]) if lone else sizes[place]
+                sizes[above] = sizes[above] + (min(1, many) if sizes[above] == 0 else many)
         return sizes
 
     def crowds(self, subject):
