@@ -28,15 +28,15 @@ def class_dates_in(date):
     return [date] if date.class_dates > 0 else []
 
 
-def class_places(chain, past):
-    """Return the places of those whose births and deaths determine the years of class dates."""
-    found = {}
-    for gift in chain:
+def class_places(gifts, past):
+    """Return for each class date, equal ones once, the place of those whose births and deaths determine its year."""
+    found = []
+    for gift in gifts:
         for date in dates_of(gift.date, gift.conditions):
             for part in class_dates_in(date):
-                if not is_fixed(part, past):
-                    found[("child", part.kin.life)] = True
-    return list(found)
+                if part not in found and not is_fixed(part, past):
+                    found.append(part)
+    return [("child", part.kin.life) for part in found]
 
 
 def is_fixed(date, past):
@@ -44,10 +44,10 @@ def is_fixed(date, past):
     return isinstance(date, First) and date.what == "birth" and len(date.kin.members(past)) > 0
 
 
-def all_places(chain, classes):
+def all_places(gifts, classes):
     """Return the places from which newcomers count; classes are those on whom class dates hang."""
     found = {place: True for place in classes}
-    for gift in chain:
+    for gift in gifts:
         kin = newcomer_kin(gift.taker)
         if kin is not None:
             found[("child", kin.life)] = True
@@ -56,25 +56,30 @@ def all_places(chain, classes):
     return list(found)
 
 
-def taking_places(taker, past, places):
-    """Return the places of the newcomers whom a taker can give a gift."""
-    kin = newcomer_kin(taker)
-    return [] if kin is None else places_of(kin, past, places)
+def taking_places(gifts, past, places):
+    """Return the places of the newcomers to whom the takers can give one of the gifts."""
+    kins = [newcomer_kin(gift.taker) for gift in gifts]
+    return [place for kin in kins if kin is not None for place in places_of(kin, past, places)]
+
+
+def chain_cast(chain, past):
+    """Return the cast for the gift at the end of a chain: one takes it, or one takes a gift ahead of it."""
+    return Cast(past, chain, chain[-1:], chain[:-1])
 
 
 class Cast:
-    """How many newcomers are enough for the gift at the end of a chain, in which places.
+    """How many newcomers are enough for some gifts, in which places.
 
-    One newcomer takes the gift in one of two records; in the other record another one keeps it from it, as it takes
-    a gift ahead. Others determine the years of class dates, and some are but parents. The subject is the place of
-    the newcomer of the row in question, None if there is none.
+    One newcomer takes one of the first gifts; another one takes one of the second ones, as it keeps the first one
+    from its gift, or is asked for besides. Others determine the years of class dates, and some are but parents. The
+    subject is the place of the newcomer of the row in question, None if there is none.
     """
 
-    def __init__(self, chain, past):
-        self.classes = class_places(chain, past)
-        self.places = all_places(chain, self.classes)
-        self.taking = taking_places(chain[-1].taker, past, self.places)
-        self.others = [place for gift in chain[:-1] for place in taking_places(gift.taker, past, self.places)]
+    def __init__(self, past, gifts, first, second):
+        self.classes = class_places(gifts, past)
+        self.places = all_places(gifts, self.classes)
+        self.taking = taking_places(first, past, self.places)
+        self.others = taking_places(second, past, self.places)
 
     def is_idle(self, place):
         """Return whether nothing hangs on the newcomers of a place, who are but parents."""

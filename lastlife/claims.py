@@ -100,12 +100,20 @@ def comes_first(world, one, other):
         return isinstance(one, str)
     if world.rank(one) == world.rank(other):
         return one[2] < other[2]
-    # Newcomers get names in the order of their ranks, so of two who are born in one year the lesser rank is first.
-    return link(world.birth(one), world.birth(other), 0 if world.rank(one) < world.rank(other) else -1)
+    if world.rank(one) > world.rank(other):
+        return denied(comes_first(world, other, one))
+    # The names of newcomers are free, so of two who are born in one year either can be the first one.
+    births = (world.birth(one), world.birth(other))
+    turns = link(world.turn(one), world.turn(other))
+    return some_of([link(births[0], births[1], -1), all_of([link(births[0], births[1]), turns])])
 
 
 class Question:
-    """What is asked of the gift at the end of a chain in a world."""
+    """What is asked of the gift at the end of a chain in a world.
+
+    Two questions are asked of the record with the row in question and of the shorter one, or of the same record
+    for two gifts.
+    """
 
     def __init__(self, world, chain, shorter):
         self.ahead = [Claims(world, gift, shorter) for gift in chain[:-1]]
@@ -121,10 +129,10 @@ class Question:
         return some_of([*[denied(need) for need in self.last.needs], *[claims.finds() for claims in self.ahead]])
 
     def fails_unlike(self, other):
-        """Return the sentence that it fails by something that the other record does not ask for in the same way."""
-        found = [denied(need) for need, same in zip(self.last.needs, other.last.needs) if need != same]
-        for claims, free, same in zip(self.ahead, self.free, other.free):
-            if free != same:
+        """Return the sentence that it fails by something that the other question does not ask for in the same way."""
+        found = [denied(need) for need in self.last.needs if need not in other.last.needs]
+        for claims, free in zip(self.ahead, self.free):
+            if free not in other.free:
                 found.append(claims.finds())
         return some_of(found)
 
@@ -145,8 +153,18 @@ class Question:
         others = [person for person, _ in self.last.pairs if person not in takers]
         return some_of([self.goes_to(others), *[self.passes_over(person) for person in takers]])
 
-    def loses(self, other):
-        """Return the sentence that somebody takes here and does not take in the other record."""
-        lost = [all_of([holds, denied(other.last.takes(person))]) for person, holds in self.last.pairs]
-        unlike = some_of([*lost, all_of([other.fails_unlike(self), self.last.finds_somebody()])])
+    def loses(self, other, persons=None):
+        """Return the sentence that one of the persons takes here and not in the other question; None stands for all."""
+        pairs = [pair for pair in self.last.pairs if persons is None or pair[0] in persons]
+        somebody = self.last.finds_somebody() if persons is None else some_of([holds for _, holds in pairs])
+        lost = [all_of([holds, denied(other.last.takes(person))]) for person, holds in pairs]
+        unlike = some_of([*lost, all_of([other.fails_unlike(self), somebody])])
         return all_of([unlike, self.is_for_grabs()])
+
+    def has_takers(self):
+        """Return the sentence that somebody takes."""
+        return all_of([self.last.finds_somebody(), self.is_for_grabs()])
+
+    def has_none(self):
+        """Return the sentence that nobody takes."""
+        return some_of([denied(self.last.finds_somebody()), self.fails()])

@@ -72,6 +72,12 @@ class Deed:
         return iter(self.gifts)
 
 
+def require_deed_lives(deed, lives):
+    """Raise NoLife for the first life that a gift of the deed names and that is none of the lives."""
+    for gift in deed.gifts:
+        require_lives(lives, gift.lives_named)
+
+
 def gift_fault(told, gift):
     """Return the word for a gift behind the gifts that are told, a dict by name, or None."""
     if not isinstance(gift, Gift):

@@ -43,6 +43,16 @@ class Gift:
                 and self.part == other.part)
 
 
+def deals_of(chain):
+    """Return all that the takers of the gift at the end of a chain hang on."""
+    return [(gift.taker, gift.date, gift.conditions) for gift in chain]
+
+
+def remade(gift, taker, date, conditions):
+    """Return the gift with another taker, date and conditions."""
+    return Gift(gift.name, taker, date, *conditions, over=gift.over, until=gift.until, part=gift.part)
+
+
 def main_fault(name, taker, date, conditions):
     """Return the word for what a gift is, or None."""
     if not is_name(name):

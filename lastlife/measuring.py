@@ -3,7 +3,8 @@
 from lastlife.bounds import NO_BOUND
 from lastlife.calls import called_chain
 from lastlife.lives import require_lives
-from lastlife.reach import Reaches, is_good
+from lastlife.reach import is_good
+from lastlife.reaches import Reaches
 from lastlife.record import Record
 
 
@@ -43,7 +44,7 @@ def measuring_table(deed, name, lives):
         least = max([found[other] for other in found if holds_all(other, members)], default=0)
         most = min([found[other] for other in found if holds_all(members, other)], default=NO_BOUND)
         if least < most:
-            least = Reaches(deed, name, record, 0, members).lags.look(least, most)
+            least = Reaches(deed, name, record, 0, members).look(least, most)
         found[members] = least
     return tuple([(members, None if found[members] == NO_BOUND else found[members])
                   for members in sets_of(lives.names)])

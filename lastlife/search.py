@@ -91,6 +91,13 @@ class Search:
         bounds.tighten(link[0], link[1], link[2], grounds)
         return True
 
+    def is_worth_it(self, bounds):
+        """Return whether better times can be within the bounds, and keep the grounds if they cannot."""
+        if self.difference(bounds) > self.best:
+            return True
+        self.grounds = self.difference_grounds(bounds)
+        return False
+
     def settled(self, bounds, waiting):
         """Put all that is sure into the bounds; return the sentences that leave a choice, None if none can hold."""
         while True:
@@ -98,8 +105,7 @@ class Search:
             waiting = self.weighed(bounds, waiting, ones, others)
             if waiting is None:
                 return None
-            if self.difference(bounds) <= self.best:
-                self.grounds = self.difference_grounds(bounds)
+            if not self.is_worth_it(bounds):
                 return None
             if not bounds.has_changed():
                 return waiting

@@ -47,8 +47,7 @@ def time_of(value, world):
     for known, time in world.named:
         if known == value:
             return time
-    time = (world.count, 0)
-    world.count += 1
+    time = world.free_time()
     world.named.append((value, time))
     world.rules.extend([at_most(value, time), at_most(time, value)])
     return time

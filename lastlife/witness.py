@@ -3,7 +3,7 @@
 from lastlife.bounds import NO_BOUND
 from lastlife.facts import place
 from lastlife.record import Record
-from lastlife.world import AT_END, GAP, ZERO
+from lastlife.world import AT_END, GAP, START, ZERO
 
 LETTERS = "abcdefghijklmnopqrstuvwxyz"
 
@@ -18,7 +18,7 @@ class Witness:
         comers = self.comers()
         fresh = fresh_names(world.past.persons, len(comers))
         for comer, name in zip(comers, fresh):
-            self.given[comer[3]] = name
+            self.given[comer[4]] = name
 
     def row_year(self, time):
         """Return the year of a time, None if no row has it."""
@@ -27,24 +27,28 @@ class Witness:
 
     def first_year(self, person):
         """Return the year in which a newcomer is there for the first time, None if it does not come."""
-        if person[0] == "last" or self.world.row == ("born", person):
+        if person[0] == "other" or self.world.row == ("born", person):
             return self.row_year(AT_END)
         return self.row_year(self.world.start(person))
 
+    def turn(self, person):
+        """Return the turn of a newcomer among those who are there from the same year on."""
+        return -self.bounds.most(ZERO, self.world.turn(person)[0]) if person in self.world.turns else 0
+
     def comers(self):
-        """Return year, rank, number and person of all newcomers who come, in the order in which they are named."""
+        """Return year, turn, rank, number and person of the newcomers who come, as they are named one by one."""
         persons = [("mate", name) if word == "wed" else name
                    for word, name in self.world.instants if word in ("born", "wed")]
         if self.world.row is not None and self.world.row[0] in ("born", "wed"):
             word, name = self.world.row
-            persons.append(("last", name) if word == "wed" else name)
+            persons.append(("other", name) if word == "wed" else name)
         ranks = sorted(set([self.world.rank(person) for person in persons]))
         found = []
         for person in persons:
             year = self.first_year(person)
             if year is not None:
                 number = person[2] if len(person) == 3 else 0
-                found.append((year, ranks.index(self.world.rank(person)), number, person))
+                found.append((year, self.turn(person), ranks.index(self.world.rank(person)), number, person))
         return sorted(found)
 
     def given_name(self, person):
@@ -85,7 +89,7 @@ class Witness:
         for life in self.world.measuring:
             # A life on which nothing hangs has no instant of its own.
             if self.world.past.is_alive(life) and ("died", life) not in self.world.instants:
-                found.append(("died", self.world.since + 1, life))
+                found.append(("died", self.row_year((START, 0)), life))
         return found
 
     def row_in_question(self):
@@ -93,7 +97,7 @@ class Witness:
         word, name = self.world.row
         year = self.row_year(AT_END)
         if word == "wed":
-            return (word, year, name, self.given_name(("last", name)))
+            return (word, year, name, self.given_name(("other", name)))
         return self.event_row(word, name, year)
 
     def told_record(self, more=()):

@@ -1,12 +1,12 @@
 """A world: a record whose rows behind a year are not known. Its events are instants with bounds and sentences.
 
 A person is told by its name, a newcomer by a tuple: ("child", life, number) and ("grand", life, number) for
-the children and the other grandchildren of a life, ("mate", life) for its next mate, ("last", life) for the
+the children and the other grandchildren of a life, ("mate", life) for its next mate, ("other", life) for the
 mate of a wedding that is the row in question. A time is a pair of an instant and so many years behind it.
 
-The row in question, if there is one, is the last one. Every time is asked for the record with this row, and
-for the shorter one without it. It is told as ("died", person), ("born", person), ("wed", life) or
-("happened", name).
+The row in question, if there is one, is the last one, or it stands in the last year beside others. Every time
+is asked for the record with this row, and for the shorter one without it. It is told as ("died", person),
+("born", person), ("wed", life) or ("happened", name).
 """
 
 from lastlife.facts import RANKS
@@ -18,7 +18,8 @@ LATE_AT = 1
 NEVER = 2
 END = 3
 DEAD = 4
-FIRST_FREE = 5
+START = 5
+FIRST_FREE = 6
 
 # Unrecorded deaths stand so far behind all rows, and what never comes so far behind these.
 GAP = 1000000000000
@@ -38,37 +39,44 @@ def link(one, other, most=0):
 class World:
     """The events behind a year, with the links and the sentences that make them rows of a record."""
 
-    def __init__(self, past, since, pools, row=None, measuring=()):
+    def __init__(self, past, since, pools, row=None, measuring=(), is_beside=False):
         self.past = past
-        self.since = since
         self.pools = pools
         self.row = row
         self.measuring = measuring
+        self.is_beside = is_beside
         self.count = FIRST_FREE
         self.instants = {}
-        self.links = [(ZERO, END, -since - 1), (END, LATE_AT, -GAP), (LATE_AT, NEVER, -GAP), (DEAD, END, -1)]
+        self.turns = {}
+        self.links = [(ZERO, START, -since - 1), (START, END, 0), (END, LATE_AT, -GAP), (LATE_AT, NEVER, -GAP),
+                      (DEAD, END, -1)]
         self.rules = []
         self.named = []
         for life in measuring:
-            self.links.append((ZERO, DEAD, -since - 1 if past.is_alive(life) else -past.death(life)))
+            self.links.append((START, DEAD, 0) if past.is_alive(life) else (ZERO, DEAD, -past.death(life)))
 
     def added_instant(self, word, name):
         """Return a new instant for an event."""
-        at = self.count
-        self.count += 1
+        at = self.free_time()[0]
         self.instants[(word, name)] = at
         return at
 
+    def free_time(self):
+        """Return the time of a new instant on which nothing hangs."""
+        at = self.count
+        self.count += 1
+        return (at, 0)
+
     def latest(self, word):
         """Return the last time at which an event of this kind can have its row."""
-        behind = self.row is not None and RANKS[word] > RANKS[self.row[0]]
+        behind = self.row is not None and not self.is_beside and RANKS[word] > RANKS[self.row[0]]
         return (END, -1) if behind else AT_END
 
     def death(self, person, shorter):
         """Return the time of a person's death."""
         if self.row == ("died", person):
             return AT_LATE if shorter else AT_END
-        if self.row == ("born", person) or person[0] == "last":
+        if self.row == ("born", person) or person[0] == "other":
             return AT_LATE
         if isinstance(person, str) and not self.past.is_alive(person):
             return (ZERO, self.past.death(person))
@@ -96,7 +104,7 @@ class World:
     def add_known(self, person):
         """Add the death of a known person who is alive."""
         death = self.added_instant("died", person)
-        self.links.extend([(ZERO, death, -self.since - 1), (death, LATE_AT, 0)])
+        self.links.extend([(START, death, 0), (death, LATE_AT, 0)])
         if person in self.measuring:
             self.links.append((death, DEAD, 0))
         else:
@@ -106,7 +114,7 @@ class World:
         """Add the birth and the death of a child or a grandchild."""
         word, life, number = person
         birth = self.added_instant("born", person)
-        self.links.extend([(ZERO, birth, -self.since - 1), (birth, NEVER, 0)])
+        self.links.extend([(START, birth, 0), (birth, NEVER, 0)])
         before = (word, life, number - 1)
         if number > 0 and not self.is_subject(before):
             # Newcomers stand in the order of their births; those who never come stand last.
@@ -175,8 +183,8 @@ class World:
     def add_wedding(self, life):
         """Add the next wedding of a life that is alive."""
         wedding = self.added_instant("wed", life)
-        youngest = max(self.since + 1, self.past.birth(life) + self.past.customs.wed_age)
-        self.links.extend([(ZERO, wedding, -youngest), (wedding, NEVER, 0)])
+        youngest = self.past.birth(life) + self.past.customs.wed_age
+        self.links.extend([(START, wedding, 0), (ZERO, wedding, -youngest), (wedding, NEVER, 0)])
         present = [link((wedding, 0), self.latest("wed"))]
         if self.row != ("died", life):
             present.append(link((wedding, 0), self.death(life, True)))
@@ -188,7 +196,7 @@ class World:
     def mates(self, life, shorter):
         """Return the pairs of a person and the sentence that this is the last mate of the life."""
         if self.row == ("wed", life) and not shorter:
-            return [(("last", life), True)]
+            return [(("other", life), True)]
         known = self.past.mate(life)
         if not self.past.is_alive(life):
             return [] if known is None else [(known, True)]
@@ -205,7 +213,7 @@ class World:
             return AT_NEVER if shorter else AT_END
         if ("happened", name) not in self.instants:
             at = self.added_instant("happened", name)
-            self.links.extend([(ZERO, at, -self.since - 1), (at, NEVER, 0)])
+            self.links.extend([(START, at, 0), (at, NEVER, 0)])
             self.rules.append(some_of([link((at, 0), self.latest("happened")), link(AT_NEVER, (at, 0))]))
         return (self.instants[("happened", name)], 0)
 
@@ -217,15 +225,27 @@ class World:
         """Return a rank that newcomers share who stand in the order of their births."""
         return (newcomer[0], newcomer[1], 0 if self.is_subject(newcomer) else 1)
 
+    def turn(self, newcomer):
+        """Return the time that tells the turn of a newcomer's name among those who are born in one year."""
+        if newcomer not in self.turns:
+            at = self.free_time()[0]
+            self.turns[newcomer] = at
+            self.links.append((ZERO, at, 0))
+            before = (newcomer[0], newcomer[1], newcomer[2] - 1)
+            if newcomer[2] > 0 and self.rank(before) == self.rank(newcomer):
+                self.links.append(link(self.turn(before), (at, 0)))
+        return (self.turns[newcomer], 0)
+
     def require_row(self):
-        """Add that the row in question is right behind the others."""
+        """Add that the row in question is right where it stands."""
         if self.row is None:
             return
         word, name = self.row
         if word == "wed":
             youngest = self.past.birth(name) + self.past.customs.wed_age
             self.links.append((ZERO, END, -youngest))
-            self.rules.append(link(AT_LATE, self.death(name, True)))
+            # A death of the same year stands behind a wedding, which is not the last row then.
+            self.rules.append(link(AT_END if self.is_beside else AT_LATE, self.death(name, True)))
         elif word == "born":
             self.rules.append(self.birth_rule(name))
         elif word == "died" and not isinstance(name, str):

@@ -2,13 +2,13 @@
 
 import unittest
 
-from lastlife.cast import Cast
+from lastlife.cast import chain_cast
 from lastlife.conditions import By
 from lastlife.dates import Close, Death, First, Last, Year
 from lastlife.gifts import Gift
 from lastlife.kin import Children, Grandchildren
 from lastlife.takers import FirstReaching, Living, Mate, Named, Reaching, Told, Whole
-from lastlife.world import AT_END, AT_LATE, AT_NEVER, DEAD, END, FIRST_FREE, LATE_AT, NEVER, ZERO
+from lastlife.world import AT_END, AT_LATE, AT_NEVER, DEAD, END, FIRST_FREE, LATE_AT, NEVER, START, ZERO
 from tests.helpers import family
 
 KIN, GRAND, OTHERS = Children("a"), Grandchildren("a"), Children("c")
@@ -16,7 +16,7 @@ A, B, C, BELOW = ("child", "a"), ("child", "b"), ("child", "c"), ("grand", "a")
 
 
 def cast_of(*gifts, record=None):
-    return Cast(gifts, record or family())
+    return chain_cast(gifts, record or family())
 
 
 def gift(taker, date=None, *rules):
@@ -26,7 +26,7 @@ def gift(taker, date=None, *rules):
 class TestWorld(unittest.TestCase):
     def test_the_times_of_the_first_instants(self):
         self.assertEqual((AT_LATE, AT_NEVER, AT_END), ((LATE_AT, 0), (NEVER, 0), (END, 0)))
-        self.assertEqual(sorted((ZERO, LATE_AT, NEVER, END, DEAD)), list(range(FIRST_FREE)))
+        self.assertEqual(sorted((ZERO, LATE_AT, NEVER, END, DEAD, START)), list(range(FIRST_FREE)))
 
 
 class TestCast(unittest.TestCase):
