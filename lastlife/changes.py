@@ -81,9 +81,10 @@ class Draft:
             conditions = [condition_with(condition, change[2], new) for condition in gift.conditions]
             self.put(gift, gift.taker, date_with(gift.date, change[2], new), conditions)
         else:
-            at = self.left[gift.name].index(change[2])
-            del self.left[gift.name][at]
-            self.put(gift, gift.taker, gift.date, [*gift.conditions[:at], *gift.conditions[at + 1:]])
+            left = self.left[gift.name]
+            kept = [condition for index, condition in zip(left, gift.conditions) if index != change[2]]
+            self.left[gift.name] = [index for index in left if index != change[2]]
+            self.put(gift, gift.taker, gift.date, kept)
 
     def put(self, gift, taker, date, conditions):
         """Put another taker, date and conditions into a gift."""

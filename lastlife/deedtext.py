@@ -98,5 +98,6 @@ def made_gift(things):
     """Return the gift of pairs of a word and what its row tells."""
     told = {word: thing for word, thing in things if word != "if"}
     conditions = [thing for word, thing in things if word == "if"]
-    return Gift(told["gift"], told["to"], told["on"], *conditions,
-                over=told.get("over"), until=told.get("until"), part=told.get("part", (1, 1)))
+    name, taker, date = told["gift"], told["to"], told["on"]
+    over, until, part = told.get("over"), told.get("until"), told.get("part", (1, 1))
+    return Gift(name, taker, date, *conditions, over=over, until=until, part=part)

@@ -11,21 +11,21 @@ class FewRows(Search):
     def __init__(self, events, most):
         super().__init__(None, 0, 1)
         self.events = events
-        self.most = most
+        self.allowed = most
 
     def is_worth_it(self, bounds):
         """Return whether few enough events have a row, and once there are as many as can be, leave out the others."""
         if not super().is_worth_it(bounds):
             return False
         sure = [at for at in self.events if bounds.most(at, END) <= 0]
-        if len(sure) < self.most:
+        if len(sure) < self.allowed:
             return True
         grounds = 0
         # One more than there can be are enough to show that there are too many.
-        for at in sure[:self.most + 1]:
+        for at in sure[:self.allowed + 1]:
             grounds = grounds | bounds.grounds[at][END]
         self.grounds = grounds
-        if len(sure) > self.most:
+        if len(sure) > self.allowed:
             return False
         for at in self.events:
             if at not in sure and bounds.most(END, at) >= 0:
@@ -53,9 +53,10 @@ class Play:
 
 def are_met(plays, most=None):
     """Return whether the sentence of one of the plays holds in some record, of at most so many rows."""
-    if most is None:
-        return any([play.is_met() for play in plays])
-    return any([play.is_met_with(most) for play in plays])
+    for play in plays:
+        if play.is_met() if most is None else play.is_met_with(most):
+            return True
+    return False
 
 
 def fewest_rows(plays):

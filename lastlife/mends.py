@@ -25,7 +25,7 @@ class Goodness:
     """Which gifts are good over some lives; gifts of equal chains are looked at but once."""
 
     def __init__(self, lives):
-        self.start = Record(lives)
+        self.empty = Record(lives)
         self.known = []
 
     def is_good(self, deed, name):
@@ -34,13 +34,13 @@ class Goodness:
         for other, verdict in self.known:
             if other == deals:
                 return verdict
-        verdict = not self.reaches(deed, name).exceeds(self.start.customs.limit)
+        verdict = not self.reaches(deed, name).exceeds(self.empty.customs.limit)
         self.known.append((deals, verdict))
         return verdict
 
     def reaches(self, deed, name):
         """Return the lags of the gift."""
-        return Reaches(deed, name, self.start, None, None)
+        return Reaches(deed, name, self.empty, None, None)
 
     def bad_names(self, deed):
         """Return the names of the gifts that are not good."""
@@ -49,7 +49,7 @@ class Goodness:
     def breach(self, deed, name):
         """Return a record in which a gift that is not good is open for too long."""
         reaches = self.reaches(deed, name)
-        most = self.start.customs.limit
+        most = self.empty.customs.limit
         return reaches.shown(most + 1) if reaches.exceeds(most) else None
 
 
@@ -61,7 +61,7 @@ class Lots:
         require_pool(pool)
         self.deed = deed
         self.lives = lives
-        self.pool = pool
+        self.choices = pool
         self.goodness = Goodness(lives)
         self.lots = [(), *sets_of(tuple(list(range(len(pool)))))]
         self.made = {lot: self.make(lot) for lot in self.lots}
@@ -70,7 +70,7 @@ class Lots:
     def make(self, lot):
         """Return the changed deed, or the index in the pool and the word of the change that cannot be made."""
         try:
-            return changed(self.deed, self.lives, [self.pool[index] for index in lot])
+            return changed(self.deed, self.lives, [self.choices[index] for index in lot])
         except BadChange as wrong:
             return (lot[wrong.index], wrong.what)
 
@@ -90,7 +90,7 @@ class Lots:
         """Return the smaller lots within a lot."""
         return [other for other in self.lots if other != lot and holds_all(lot, other)]
 
-    def row(self, lot):
+    def told_row(self, lot):
         """Return what all_lots tells of a lot."""
         if not self.can_be_made(lot):
             return (lot, "none", self.made[lot])
@@ -111,7 +111,7 @@ class Lots:
 
     def fault(self, mend):
         """Return the word for a Mend, None if it is right."""
-        if not is_lot(mend.lot, len(self.pool)):
+        if not is_lot(mend.lot, len(self.choices)):
             return "lot"
         if not self.can_be_made(mend.lot):
             return "made"
@@ -164,7 +164,7 @@ def is_good_deed(deed, lives):
 def all_lots(deed, lives, pool):
     """Return the rows of all lots: the lot, whether it is good, bad or cannot be made, and why."""
     lots = Lots(deed, lives, pool)
-    return tuple([lots.row(lot) for lot in lots.lots])
+    return tuple([lots.told_row(lot) for lot in lots.lots])
 
 
 def spoiling(deed, lives, pool):

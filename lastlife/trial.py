@@ -9,14 +9,14 @@ class Trial:
         self.old_record = None
         self.old_now = None
         self.old_log = None
-        self.old_records = None
+        self.old_kept = None
         self.old_deadline = None
 
     def __enter__(self):
         self.old_record = self.watch.record
         self.old_now = self.watch._now
         self.old_log = self.watch._log
-        self.old_records = self.watch._records
+        self.old_kept = self.watch._kept
         self.old_deadline = self.watch._deadline
         return self.watch
 
@@ -25,5 +25,5 @@ class Trial:
         watch.record = self.old_record
         watch._now = self.old_now
         watch._log = self.old_log
-        watch._records = self.old_records
+        watch._kept = self.old_kept
         watch._deadline = self.old_deadline

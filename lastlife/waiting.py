@@ -26,9 +26,9 @@ class Waiting:
         self.deed = deed
         self.name = name
         self.gifts = called_chain(deed, name, record)
-        self.year = called_year(record, year)
+        self.since = called_year(record, year)
         self.measuring = called_measuring(record, measuring)
-        self.past = record.until(self.year)
+        self.past = record.until(self.since)
         self.limit = record.customs.limit
 
     def other_future(self, past, year):
@@ -41,33 +41,33 @@ class Waiting:
         """Return whether the gift is settled at a year."""
         return self.other_future(self.past, year) is None
 
-    def lags(self, year):
+    def lags_from(self, year):
         """Return the lags of the gift from a year on."""
         return Lags(self.past.until(year), year, self.gifts, self.measuring)
 
     def is_safe(self, year):
         """Return whether the number of the gift is at most the limit from a year on."""
-        return self.lags(year).look(lambda case: case.tips(), self.limit, self.limit + 1) <= self.limit
+        return self.lags_from(year).look(lambda case: case.tips(), self.limit, self.limit + 1) <= self.limit
 
     def has_fallen(self):
         """Return whether the deadline has come by the year, and the gift is open at it."""
         deadline = deadline_of(self.past, self.measuring)
-        return deadline is not None and deadline <= self.year and not self.is_settled(deadline)
+        return deadline is not None and deadline <= self.since and not self.is_settled(deadline)
 
     def state(self):
         """Return the state of the gift at the year."""
         if self.has_fallen():
             return FALLEN
-        if self.is_settled(self.year):
+        if self.is_settled(self.since):
             return SETTLED
-        return SURE if self.is_safe(self.year) else WAITING
+        return SURE if self.is_safe(self.since) else WAITING
 
     def fall(self):
         """Return a Fall, None if the gift is settled or sure."""
         if self.has_fallen():
             return self.fall_at(deadline_of(self.past, self.measuring))
-        lags = self.lags(self.year)
-        if self.is_settled(self.year) or lags.look(lambda case: case.tips(), self.limit, self.limit + 1) <= self.limit:
+        lags = self.lags_from(self.since)
+        if self.is_settled(self.since) or lags.look(lambda case: case.tips(), self.limit, self.limit + 1) <= self.limit:
             return None
         record = lags.shown(self.limit + 1, lambda one: sorted(self.deed.takers(self.name, one)))
         return Fall(record, record.shorter())
@@ -103,13 +103,14 @@ class Waiting:
         mark, before = self.first_mark(holds)
         if before is None:
             return mark
-        most = self.year + 1 if mark is None else mark
+        most = self.since + 1 if mark is None else mark
         found = min(last(before, most), most)
-        return found if found <= self.year else None
+        return found if found <= self.since else None
 
     def settled_since(self):
         """Return the least year at which the gift is settled, None if there is none up to the year."""
-        return self.first_year(lambda year: self.is_settled(year), lambda year, most: self.last_open(year, most))
+        return self.first_year(lambda year: self.is_settled(year),
+                               lambda before, most: self.last_open(before, most))
 
     def last_open(self, year, most):
         """Return the last year in which the next rows behind a year can begin if they bring other takers."""
@@ -119,13 +120,14 @@ class Waiting:
 
     def safe_since(self):
         """Return the least year from which on the number is at most the limit, None if there is none."""
-        return self.first_year(lambda year: self.is_safe(year), lambda year, most: self.last_unsafe(year, most))
+        return self.first_year(lambda year: self.is_safe(year),
+                               lambda before, most: self.last_unsafe(before, most))
 
     def last_unsafe(self, year, most):
         """Return the last year in which the next rows behind a year can begin if a lag is above the limit."""
-        return self.lags(year).look_for_start(lambda case: case.tips(), self.limit + 1, most)
+        return self.lags_from(year).look_for_start(lambda case: case.tips(), self.limit + 1, most)
 
-    def changes(self):
+    def all_changes(self):
         """Return the pairs of a year and the state that begins there."""
         if self.has_fallen():
             return ((0, WAITING), (deadline_of(self.past, self.measuring), FALLEN))
@@ -142,7 +144,7 @@ class Waiting:
         """Return the word for a Fall or None, None if it is right."""
         if answer is None:
             return "none" if self.state() in (WAITING, FALLEN) else None
-        if not isinstance(answer.record, Record) or not agree(answer.record, self.past, self.year):
+        if not isinstance(answer.record, Record) or not agree(answer.record, self.past, self.since):
             return "agree"
         deadline = deadline_of(answer.record, self.measuring)
         if deadline is None:
@@ -182,4 +184,4 @@ def settled_since(deed, name, record, *, year=None):
 
 def state_changes(deed, name, record, *, year=None, measuring=None):
     """Return the pairs of a year and the state of the gift from this year on."""
-    return Waiting(deed, name, record, year, measuring).changes()
+    return Waiting(deed, name, record, year, measuring).all_changes()

@@ -32,7 +32,7 @@ class Watch:
         self._deadline = None
         self._log = ()
         # The record that stood when an entry was added to the log, for each entry.
-        self._records = ()
+        self._kept = ()
         self._note()
 
     @property
@@ -118,12 +118,12 @@ class Watch:
                 told = self.told(name)
                 if [self._log[at][2:] for at in latest] != [told]:
                     self._log = (*self._log, (self._now, name, *told))
-                    self._records = (*self._records, self.record)
+                    self._kept = (*self._kept, self.record)
 
     def _stands(self, at):
         """Return whether the record agrees up to the year of an entry with the one that stood then."""
         year = self._log[at][0]
-        return rows_until(self.record, year) == rows_until(self._records[at], year)
+        return rows_until(self.record, year) == rows_until(self._kept[at], year)
 
     def withdrawn(self):
         """Return the indices of the entries that do not stand."""

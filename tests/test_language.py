@@ -154,11 +154,41 @@ class TestLanguage(unittest.TestCase):
         for path, tree in trees():
             for node in ast.walk(tree):
                 if isinstance(node, ast.Call):
-                    for thing in node.args:
-                        if isinstance(thing, ast.Starred):
-                            named = isinstance(thing.value, ast.Name)
-                            kept = isinstance(thing.value, ast.Attribute) and isinstance(thing.value.value, ast.Name)
-                            self.assertTrue(named or kept, (path, ast.unparse(node)))
+                    stars = [at for at, thing in enumerate(node.args) if isinstance(thing, ast.Starred)]
+                    behind = node.args[stars[0] + 1:] + [word.value for word in node.keywords] if stars else []
+                    for thing in [node.args[at].value for at in stars] + behind:
+                        named = isinstance(thing, (ast.Name, ast.Constant))
+                        kept = isinstance(thing, ast.Attribute) and isinstance(thing.value, ast.Name)
+                        self.assertTrue(named or kept, (path, ast.unparse(node)))
+
+    def test_no_property_has_the_name_of_a_method(self):
+        methods, properties = set(), set()
+        for _, tree in trees():
+            for owner in [node for node in tree.body if isinstance(node, ast.ClassDef)]:
+                for node in owner.body:
+                    if isinstance(node, ast.FunctionDef):
+                        (properties if node.decorator_list else methods).add(node.name)
+        self.assertEqual(methods & properties, set())
+
+    def test_classes_are_not_passed_on_or_stored(self):
+        classes = {node.name for _, tree in trees() for node in tree.body if isinstance(node, ast.ClassDef)}
+        for path, tree in trees():
+            above = {inner: node for node in ast.walk(tree) for inner in ast.iter_child_nodes(node)}
+            for node in ast.walk(tree):
+                if isinstance(node, ast.Name) and node.id in classes:
+                    user = above[node] if not isinstance(above[node], ast.Tuple) else above[above[node]]
+                    if isinstance(user, ast.Call):
+                        asked = isinstance(user.func, ast.Name) and user.func.id == "isinstance" and user.args[0] is not node
+                        self.assertTrue(user.func is node or asked, (path, ast.unparse(user)))
+                    else:
+                        kinds = (ast.ClassDef, ast.ExceptHandler, ast.Raise, ast.Attribute)
+                        self.assertIsInstance(user, kinds, (path, ast.unparse(user)))
+
+    def test_what_changes_a_sum_in_place_is_a_literal_number(self):
+        for path, tree in trees():
+            for node in ast.walk(tree):
+                if isinstance(node, ast.AugAssign):
+                    self.assertIsInstance(node.value, ast.Constant, (path, ast.unparse(node)))
 
     def test_is_stands_beside_none_true_and_false(self):
         for path, tree in trees():
