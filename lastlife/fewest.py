@@ -47,6 +47,8 @@ class Play:
 
     def is_met_with(self, most):
         """Return whether the sentence holds in some record with at most so many rows."""
+        # Only behind the rules all events are there.
+        self.scene.all_rules()
         events = list(self.scene.world.instants.values())
         return self.scene.found(FewRows(events, most), self.sentence) > 0
 

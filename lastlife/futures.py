@@ -35,12 +35,18 @@ class Scene:
         """Return what can be asked of the gift at the end of a chain."""
         return Question(self.world, chain, False)
 
+    def all_rules(self):
+        """Return all sentences that hold in the world, once all questions have been asked."""
+        # These can bring newcomers whom no question names, and so more rules of the world.
+        few = few_newcomers(self.world, self.cast, None)
+        return [*self.world.rules, *few]
+
     def found(self, search, sentence):
         """Return what a search finds, for the times under which the sentence holds."""
         self.search = search
         if sentence is not False:
-            few = few_newcomers(self.world, self.cast, None)
-            search.find(bounded(self.world), sentence, [*self.world.rules, *few])
+            rules = self.all_rules()
+            search.find(bounded(self.world), sentence, rules)
         return search.best
 
     def shown(self, pair=None, least=0):
