@@ -46,6 +46,13 @@ class Goodness:
         """Return the names of the gifts that are not good."""
         return tuple([name for name in deed.names if not self.is_good(deed, name)])
 
+    def first_bad_name(self, deed):
+        """Return the name of the first gift that is not good, None if there is none."""
+        for name in deed.names:
+            if not self.is_good(deed, name):
+                return name
+        return None
+
     def breach(self, deed, name):
         """Return a record in which a gift that is not good is open for too long."""
         reaches = self.reaches(deed, name)
@@ -65,7 +72,7 @@ class Lots:
         self.goodness = Goodness(lives)
         self.lots = [(), *sets_of(tuple(list(range(len(pool)))))]
         self.made = {lot: self.make(lot) for lot in self.lots}
-        self.bad = {lot: self.bad_names(lot) for lot in self.lots}
+        self.first_bad = {}
 
     def make(self, lot):
         """Return the changed deed, or the index in the pool and the word of the change that cannot be made."""
@@ -78,13 +85,15 @@ class Lots:
         """Return whether all changes of a lot can be made."""
         return isinstance(self.made[lot], Deed)
 
-    def bad_names(self, lot):
-        """Return the names of the gifts that are not good in the deed of a lot, () if it cannot be made."""
-        return self.goodness.bad_names(self.made[lot]) if self.can_be_made(lot) else ()
-
     def is_good(self, lot):
         """Return whether a lot is good."""
-        return self.can_be_made(lot) and len(self.bad[lot]) == 0
+        return self.can_be_made(lot) and self.first_bad_name(lot) is None
+
+    def first_bad_name(self, lot):
+        """Return the name of the first gift that is not good in the deed of a lot, which is looked for but once."""
+        if lot not in self.first_bad:
+            self.first_bad[lot] = self.goodness.first_bad_name(self.made[lot])
+        return self.first_bad[lot]
 
     def within(self, lot):
         """Return the smaller lots within a lot."""
@@ -94,13 +103,14 @@ class Lots:
         """Return what all_lots tells of a lot."""
         if not self.can_be_made(lot):
             return (lot, "none", self.made[lot])
-        return (lot, "good" if self.is_good(lot) else "bad", self.bad[lot])
+        names = self.goodness.bad_names(self.made[lot])
+        return (lot, "good" if len(names) == 0 else "bad", names)
 
     def breach(self, part):
         """Return what shows that a lot is not good."""
         if not self.can_be_made(part):
             return (part, None, None)
-        name = self.bad[part][0]
+        name = self.first_bad_name(part)
         return (part, name, self.goodness.breach(self.made[part], name))
 
     def is_breach(self, part, name, record):
@@ -183,9 +193,9 @@ def least_mends(deed, lives, pool):
     lots = Lots(deed, lives, pool)
     found = []
     for lot in lots.lots:
-        parts = lots.within(lot)
-        if lots.is_good(lot) and not any([lots.is_good(part) for part in parts]):
-            found.append(Mend(lot, lots.made[lot], tuple([lots.breach(part) for part in parts])))
+        # Smaller lots come first, so those that are good within this one contain one of the mends.
+        if not any([holds_all(lot, mend.lot) for mend in found]) and lots.is_good(lot):
+            found.append(Mend(lot, lots.made[lot], tuple([lots.breach(part) for part in lots.within(lot)])))
     return tuple(found)
 
 
