@@ -75,7 +75,7 @@ def kin_taker_of(words, kin):
         return Whole(kin)
     if words == ["living"]:
         return Living(kin)
-    age = number_within(words[-1], 0, MOST) if len(words) > 0 else None
+    age = number_within(words[-1], 0, MOST)
     if age is None:
         return None
     if words[:-1] == ["reaching"]:

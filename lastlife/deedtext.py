@@ -96,7 +96,7 @@ def things_of_gifts(rows):
 
 def made_gift(things):
     """Return the gift of pairs of a word and what its row tells."""
-    told = {word: thing for word, thing in things if word != "if"}
+    told = {word: thing for word, thing in things}
     conditions = [thing for word, thing in things if word == "if"]
     name, taker, date = told["gift"], told["to"], told["on"]
     over, until, part = told.get("over"), told.get("until"), told.get("part", (1, 1))

@@ -118,6 +118,16 @@ class TestParting(AlikeTest):
         self.parted(None, Deed(Gift("one", Mate("bob"), WAR & Death("ann") & WAR), other.gifts[1]),
                     Deed(Gift("one", Mate("bob"), WAR & Death("ann")), other.gifts[1]), names=("field", "field"))
 
+    def test_a_newcomer_who_takes_a_gift_ahead(self):
+        lives = Lives(Customs(12), (("a", 40, None), ("b", 40, None)))
+        whole = Gift("house", Whole(Children("a")), Year(9))
+        for taker in (Whole(Children("b")), FirstReaching(Children("b"), 3), Whole(Grandchildren("b"))):
+            ahead = Gift("mill", taker, Year(90))
+            over = Gift("house", whole.taker, whole.date, over="mill")
+            wanted = 3 if isinstance(taker.kin, Grandchildren) else 2
+            self.parted(wanted, Deed(whole), Deed(ahead, over), lives)
+            self.parted(None, Deed(whole), Deed(ahead, over), lives, person="b")
+
     def test_a_life_that_no_gift_names(self):
         """A life more changes nothing, unless it is a member of a kin."""
         for one, other in ((D, E), (D, D), (house(Reaching(ANN, 50), Close(ANN)), house(Whole(ANN), Close(ANN)))):
@@ -267,7 +277,8 @@ class TestPartingFault(AlikeTest):
             self.assertEqual(self.judged(found), what)
         self.assertEqual(self.judged(None, D, D), None)
         self.assertEqual(self.judged(shown, D, D), "alike")
-        self.assertEqual(self.judged(Record(L), house(Named("bob"), Year(0)), house(Named("ann"), Year(0))), None)
+        for record, what in ((Record(L), None), (shown, "fewest")):
+            self.assertEqual(self.judged(record, house(Named("bob"), Year(0)), house(Named("ann"), Year(0))), what)
 
     def test_persons(self):
         shown = Record(L, (("died", 1, "bob"),))
@@ -290,6 +301,7 @@ class TestErrors(FamilyTest):
                 self.refused(NoGift, {"name": thing}, call, bad, "y", D, thing, L)
             self.refused(NoLife, {"name": "p"}, call, bad, "y", bad, "x", L)
             self.refused(NoLife, {"name": "p"}, call, D, "house", bad, "y", L)
+            self.refused(NoLife, {"name": "p"}, call, bad, "y", D, "house", L)
         for call in (parting, lambda *told, **more: parting_fault(*told, 3, **more)):
             self.refused(NoLife, {"name": "p"}, call, D, "house", bad, "y", L, person="z")
             for thing in (*[odd for odd in ODD if odd is not None], "z", "house", 1, Always()):

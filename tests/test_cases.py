@@ -79,6 +79,12 @@ class TestLeastCase(CaseTest):
                                      ("ad", "", 5), ("b", "a", 1), ("", "ab", 0)):
             self.case(wanted, deed, tuple(takes), tuple(fails), lives)
 
+    def test_a_newcomer_who_takes_a_gift_ahead(self):
+        deed = Deed(Gift("mill", Whole(Children("bob")), Year(50)), Gift("house", Named("ann"), Year(0), over="mill"))
+        self.case(1, deed, (), ("house",))
+        self.case(0, deed, ("house",))
+        self.case(1, deed, ("mill",), ("house",))
+
     def test_errors(self):
         bad = Deed(Gift("x", Mate("p"), Death("q")), Gift("y", Named("ann"), Death("r"), over="x"))
         for call in (least_case, lambda *told, **more: case_fault(*told, 3, **more)):

@@ -163,6 +163,17 @@ class TestJoiningAndLeaving(FamilyTest):
         self.assertIsNone(self.told(leaving, FARM, measuring=("b",)).number)
         self.same(self.told(leaving, FARM, GROWN).number, 23)
 
+    def test_only_a_death_makes_one_leave(self):
+        lives = Lives(Customs(12), (("a", 40, None), ("b", 30, None)))
+        record = Record(lives, (("died", 1, "b"),))
+        deed = deed_of(Named("a"), Year(0), By(Survivor("a"), Year(9)))
+        self.same(cause_number(deed, "farm", record, "wed", measuring=("b",)), 8)
+        self.same(self.told(leaving, deed, record, measuring=("b",)).number, 0)
+        # A happening may have the name of a person.
+        deed = deed_of(Named("a"), Year(0), By(Year(9), Happening("a")))
+        self.same(cause_number(deed, "farm", record, "happened", measuring=("b",)), 7)
+        self.same(self.told(leaving, deed, record, measuring=("b",)).number, 0)
+
     def test_a_mate_who_leaves(self):
         deed = deed_of(Mate("a"), Death("a"), By(Death("b") + 4, Survivor("a")))
         self.same(self.told(leaving, deed).number, 3)

@@ -221,6 +221,24 @@ class TestMendFault(FamilyTest):
                              ("mill", alive), ("mill", reached), ("mill", other_lives), ("mill", Record(L)), ("mill", L)):
             self.assertEqual(self.judged((0,), self.MADE, (((), name, record),)), "breach")
 
+    def test_a_breach_of_one_year_above_the_limit(self):
+        lives = Lives(Customs(12, limit=24), L.rows)
+        mends = least_mends(D, lives, POOL)
+        record = mends[0].breaches[0][2]
+        self.assertEqual(record.end - record.last_death(lives.names), 25)
+
+    def test_names_and_records_of_lots_that_cannot_be_made(self):
+        bad = Deed(Gift("mill", Told(K), Year(-3), By(SALE, Year(0))), Gift("rest", Named("a"), SALE, over="mill"),
+                   Gift("more", Named("b"), SALE, over="rest"))
+        pool = (("cut", "more"), ("cut", "rest"))
+        self.assertEqual([mend.lot for mend in least_mends(bad, L, pool)], [(0, 1)])
+        mend = least_mends(bad, L, pool)[0]
+        rows = mend.breaches
+        self.assertEqual(rows[2], ((1,), None, None))
+        for name, record in (("rest", None), (None, rows[0][2]), ("rest", rows[0][2])):
+            self.assertEqual(self.judged((0, 1), mend.deed, (*rows[:2], ((1,), name, record)), pool, bad), "breach")
+        self.assertIsNone(self.judged((0, 1), mend.deed, rows, pool, bad))
+
     def test_a_lot_that_contains_a_smaller_good_lot(self):
         pool = (POOL[0], ("age", "mill", 20))
         made = changed(D, L, pool)

@@ -47,7 +47,8 @@ class TestLivesText(TextTest):
                     (f"{HEAD}\nlife a 40", 2, "count"), (f"{HEAD}\nlife  a 40 -", 2, "count"), (f"{HEAD}\nlife", 2, "count"),
                     ("customs 12 1  21", 1, "number"), (f"{HEAD}\nlife a  -", 2, "number"),
                     (f"{HEAD}\nlife a x -", 2, "number"), (f"{HEAD}\nlife a 40 -\nlife b 010 a", 3, "number"),
-                    (f"{HEAD}\n{A}\nlives b 10 a\nlife", 3, "word"), ("customs 12 1 0 x\nnone", 1, "number")):
+                    (f"{HEAD}\n{A}\nlives b 10 a\nlife", 3, "word"), ("customs 12 1 0 x\nnone", 1, "number"),
+                    ("customs x 1 0 21", 1, "number"), ("customs 12 x 0 21", 1, "number"), ("customs 12 1 x 21", 1, "number")):
                 self.bad(call, text, row, what)
 
     def test_numerals(self):
