@@ -2,6 +2,7 @@
 
 import unittest
 
+from lastlife.alike import differing, parting
 from lastlife.conditions import By, Unless
 from lastlife.dates import Close, Death, Earlier, Happening, Survivor, Year
 from lastlife.deed import Deed
@@ -72,8 +73,13 @@ class TestDeedText(FamilyTest):
                 self.assertEqual(other.takers(name, told), deed.takers(name, record))
                 self.assertEqual(number(other, name, told), number(deed, name, record))
                 self.assertEqual(state_at(other, name, told), state_at(deed, name, record))
+            read = read_lives(lives_text(lives))
+            self.assertEqual(differing(other, deed, read), ())
+            third = dice.deed(lives, 1)
+            parts, others = parting(deed, "f", third, "f", lives), parting(other, "f", third, "f", read)
+            self.assertEqual(parts if parts is None else len(parts), others if others is None else len(others))
             pool = [("within", deed.names[0], 3)]
-            self.assertEqual([mend.deed for mend in least_mends(other, read_lives(lives_text(lives)), pool)],
+            self.assertEqual([mend.deed for mend in least_mends(other, read, pool)],
                              [mend.deed for mend in least_mends(deed, lives, pool)])
 
     def test_parts(self):
